@@ -1,0 +1,1 @@
+"""Answeredabove: signals that open calls answer while everything stays open."""

@@ -1,0 +1,1 @@
+"""Words, moves and programs: what all questions are about."""
