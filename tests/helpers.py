@@ -1,7 +1,10 @@
 """Programs and wrong values that several tests use."""
 
+import unittest
+
 from answeredabove.base.programs import Procedure, Program
 from answeredabove.errors import InvalidProgram, UnknownName, UnknownSite
+from answeredabove.run.runs import Run
 
 FIX = Procedure("fix", 1, ("go", 0, 0, ((0, 1),)), ("leave", 0, (0, 1)))
 WORK = Procedure("work", 2, ("raise", 0, 1, "need", (0, 1)), ("leave", 1, (1,)))
@@ -50,9 +53,11 @@ ODD = [
     (None,), ((),), ("",), ([],), ({},), (-1,), (9, 0), (0, 9), ("need", 0), ("Go",), (0, "need"),
     (True,), (False,), (False, True), ("leave", "0", (0,)), ((1, 0), (0, 0)), (((),),),
     nested(tuple, 12), nested(list, 12), nested(dict, 12),
-    NEED, PASS, InvalidProgram("need"), UnknownName("need"), UnknownSite(("main", 0)),
+    NEED, PASS, InvalidProgram("need"), UnknownName("need"), UnknownSite(("main", 0)), Run.own(NEED, 0, ()),
 ]
 BOOLS = [True, False]
+# None of these is a program.
+NO_PROGRAMS = [value for value in ODD + BOOLS if not isinstance(value, Program)] + [0, (), "main", FIX, ("main", 0)]
 
 
 def paths(value):
@@ -89,3 +94,30 @@ def spoiled(value):
             yield changed(value, path, list(here))
             yield changed(value, path, here + (None,))
             yield changed(value, path, here + (here[0] if here else "",))
+
+
+class Checks(unittest.TestCase):
+    """Checks that the tests of several stages share."""
+
+    def refuse(self, error, call, *arguments, **keywords):
+        """The call raises just this error."""
+        with self.assertRaises(error) as caught:
+            call(*arguments, **keywords)
+        self.assertIs(type(caught.exception), error)
+        return caught.exception
+
+    def check_order(self, call, *rows):
+        """The first wrong argument is refused, whatever is behind it.
+
+        Each row has a right argument, the error for wrong ones, the attribute that keeps them or None, and wrong ones.
+        """
+        call(*[row[0] for row in rows])
+        for at, (_, error, kept, wrong) in enumerate(rows):
+            for behind in range(2 ** (len(rows) - at - 1)):
+                for value in wrong:
+                    arguments = [row[0] for row in rows[:at]] + [value]
+                    for place, row in enumerate(rows[at + 1:]):
+                        arguments.append(row[3][0] if behind >> place & 1 else row[0])
+                    raised = self.refuse(error, call, *arguments)
+                    if kept is not None:
+                        self.assertIs(getattr(raised, kept), value)

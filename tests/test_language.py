@@ -1,6 +1,7 @@
-"""The files of the package keep to sizes, characters, imports and names of the rules L1, L2, L10, L14, L16, L17."""
+"""The files of the package keep to sizes, characters, imports and names of the rules L1, L2, L5, L10, L14 to L18."""
 
 import ast
+import builtins
 import unittest
 from pathlib import Path
 
@@ -13,6 +14,22 @@ BARRED = ("register", "mro", "elements", "open", "input", "law", "version_info",
 def files():
     """The files of the package."""
     return sorted(path for path in PACKAGE.rglob("*.py"))
+
+
+def trees():
+    """The files of the package with their trees."""
+    return [(path, ast.parse(path.read_text())) for path in files()]
+
+
+def nodes(tree, *kinds):
+    """The nodes of a tree that are of these kinds."""
+    return [node for node in ast.walk(tree) if isinstance(node, kinds)]
+
+
+def bound(function):
+    """The names that a function binds: its parameters and its variables."""
+    found = {node.arg for node in nodes(function.args, ast.arg)}
+    return found | {node.id for node in nodes(function, ast.Name) if isinstance(node.ctx, ast.Store)}
 
 
 class TestLanguage(unittest.TestCase):
@@ -68,6 +85,46 @@ class TestLanguage(unittest.TestCase):
                 self.assertNotIsInstance(node, ast.GeneratorExp, path)
                 if isinstance(node, ast.Constant) and isinstance(node.value, str):
                     self.assertNotIn("%", node.value, path)
+
+    def test_names_that_mean_something_else(self):
+        for path, tree in trees():
+            taken = {each.name for node in nodes(tree, ast.ImportFrom) for each in node.names}
+            taken |= {node.name for node in nodes(tree, ast.ClassDef)}
+            for function in nodes(tree, ast.FunctionDef, ast.Lambda):
+                self.assertEqual(bound(function) & (taken | set(dir(builtins))), set(), path)
+            top = [node.name for node in tree.body if isinstance(node, (ast.FunctionDef, ast.ClassDef))]
+            self.assertEqual(set(top) & (taken - {node.name for node in nodes(tree, ast.ClassDef)}), set(), path)
+            self.assertEqual(len(top), len(set(top)), path)
+
+    def test_each_import_is_used_and_none_goes_round(self):
+        needs = {}
+        for path, tree in trees():
+            used = {node.id for node in nodes(tree, ast.Name)}
+            for node in nodes(tree, ast.ImportFrom):
+                self.assertLessEqual({each.name for each in node.names}, used, path)
+                needs.setdefault(".".join(path.relative_to(TOP).with_suffix("").parts), set()).add(node.module)
+        done = set(LIBRARY)
+        modules = {".".join(path.relative_to(TOP).with_suffix("").parts) for path in files()}
+        for _ in modules:
+            done |= {module for module in modules if needs.get(module, set()) <= done}
+        self.assertLessEqual(modules, done)
+
+    def test_properties_methods_and_attributes(self):
+        properties, methods, attributes = set(), set(), set()
+        for _, tree in trees():
+            for made in nodes(tree, ast.ClassDef):
+                for method in [each for each in made.body if isinstance(each, ast.FunctionDef)]:
+                    marks = [each.id for each in method.decorator_list]
+                    (properties if "property" in marks else methods).add(method.name)
+            attributes |= {node.attr for node in nodes(tree, ast.Attribute) if isinstance(node.ctx, ast.Store)}
+        self.assertEqual(properties & methods, set())
+        self.assertEqual((properties | methods) & attributes, set())
+
+    def test_no_reversed_and_no_words_of_frames(self):
+        for path, tree in trees():
+            for node in nodes(tree, ast.Call):
+                self.assertNotIn(getattr(node.func, "id", None), ("reversed", "map", "iter", "next", "chr", "print"), path)
+            self.assertEqual(nodes(tree, ast.Global, ast.AsyncFunctionDef, ast.Yield, ast.Div), [], path)
 
 
 if __name__ == "__main__":

@@ -74,6 +74,20 @@ def signals_answered(move):
     return [answer[0] for answer in move[5]]
 
 
+def answer_to(move, signal):
+    """The answer to the signal that is given while the move is open, or None."""
+    if move[0] == "call":
+        for answer in move[5]:
+            if answer[0] == signal:
+                return answer
+    return None
+
+
+def modes_in(move):
+    """The modes in which a call, a raise or a leave can be made."""
+    return move[2] if move[0] == "leave" else move[4]
+
+
 def with_other_answers(call, answers):
     """The call with these answers in the place of its own."""
     return call[:5] + (answers,)

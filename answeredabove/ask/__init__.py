@@ -1,0 +1,1 @@
+"""Questions about the program's own runs."""

@@ -1,0 +1,1 @@
+"""Tables, and what procedures do under them: for all runs, with derivations and books."""

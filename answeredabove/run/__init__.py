@@ -1,0 +1,1 @@
+"""Situations, options and runs."""
