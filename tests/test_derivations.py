@@ -175,6 +175,16 @@ class TestJudged(Checks):
             value = ((("leaves", "turn", 0, (), 0), (("go", 0, 0),) * many + (("leave", 1),)),)
             self.judge(TURN, value, True)
 
+    def test_a_step_of_another_kind(self):
+        # The answer resumes in 1, the call answers the signal, and what is left does not escape.
+        other = ((("leaves", "main", 0, EMPTY, 1), (("unwind", 0, EMPTY, "need", 0, 1), ("leave", 1))),)
+        self.judge(NEED, (UNWOUND[0], TURNED) + other, False)
+        self.judge(PASS, PASSED[:2] + ((PASSED[2][0], (("call", 0, ((),)),)),), False)
+        self.judge(NEST, LET_BY[:1] + ((LET_BY[1][0], (("answer", 0, ((),) * 6, "stop", 2),)),), False)
+        self.judge(NEED, ((("escapes", "fix", 0, EMPTY, "need", 0), (("leave", 1),)),), False)
+        self.judge(NEED, ((("leaves", "work", 0, EMPTY, 0), (("raise", 0),)),), False)
+        self.judge(NEED, (UNWOUND[0], (("leaves", "main", 0, EMPTY, 0), (("call", 0, EMPTY),))), False)
+
     def test_equal_moves_twice(self):
         made = Program(1, (0,), (), Procedure("p", 1, ("leave", 0, (0,)), ("go", 0, 0, ((0, 0),)), ("leave", 0, (0,))))
         for index, right in ((0, True), (1, False), (2, True), (3, False), (-1, False)):

@@ -54,6 +54,17 @@ class TestWary(Checks):
                         found += self.check(program, context)
         self.assertGreater(found, 60)
 
+    def test_derivations_of_what_is_taken_over(self):
+        # In these a fact is first known of a context under a table within its own one.
+        for seed, places in ((1, (5, 9, 12, 15, 36, 55)), (3, (4,)), (6, (27,)), (7, (11, 47, 54)), (8, (11,))):
+            samples = programs(seed, 60, 6, 4, 3, 3, 10)
+            for place in places:
+                for context in contexts(samples[place], place)[::17]:
+                    told = all_told(samples[place], context)
+                    with mock.patch("answeredabove.know.solvers.FEW_TABLES", 0):
+                        self.assertEqual(all_told(samples[place], context), told)
+                        self.check(samples[place], context)
+
     def check(self, program, context):
         """How many facts of a context are true; each one has a derivation."""
         found = 0

@@ -187,7 +187,8 @@ class TestRead(Checks):
             "call 0 0 p in 0 on", "call 0 0 p in 0 on s", "call 0 0 p in 0 on s p 0", "call 0 0 p in 0 on s p on",
             "call 0 0 p in 0 on s p 00 t p", "call 0 0 p in 0 s p 00", "call 0 0 p in 0 on s 00", "call 0 0 p 0",
             "call 0 0 p in 0 on 0 p", "call 0 0 p in 0 on s p 00 on t", "call 0 0 p in a", "call 0 0 p in 0 in 0",
-            "raise 0 0 s", "raise 0 0 s in 0 on s p", "raise 0 0 in 0", "raise 0 0 S in 0", "raise 0 0 s in 00",
+            "call 00 0 p in 0", "call 0 a p in 0", "call 0 0 p in 0 by s p", "call 0 0 p in 0 on s p 00 s t p",
+            "raise a 0 s in 0", "raise 0 12 s in 0", "raise 0 0 s", "raise 0 0 s in 0 on s p", "raise 0 0 in 0", "raise 0 0 S in 0", "raise 0 0 s in 00",
             "raise 0 0 s by 0", "raise 0 s in 0", "raise 0 0 s in 0 a", "leave 0 0 in 0", "leave 0 in 00", "leave in 0",
             "leave 0 by 0", "leave 0 0", "leave 00 in 0", "leave 0 in 0 a", "stay 0 in 0", "procedure p 1", "",
         ):
