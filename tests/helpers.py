@@ -2,6 +2,7 @@
 
 import unittest
 
+from answeredabove.ask.watch import Answers
 from answeredabove.base.programs import Procedure, Program
 from answeredabove.errors import InvalidProgram, UnknownName, UnknownSite
 from answeredabove.run.runs import Run
@@ -54,6 +55,7 @@ ODD = [
     (True,), (False,), (False, True), ("leave", "0", (0,)), ((1, 0), (0, 0)), (((),),),
     nested(tuple, 12), nested(list, 12), nested(dict, 12),
     NEED, PASS, InvalidProgram("need"), UnknownName("need"), UnknownSite(("main", 0)), Run.own(NEED, 0, ()),
+    Answers(NEED),
 ]
 BOOLS = [True, False]
 # None of these is a program.

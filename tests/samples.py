@@ -71,3 +71,26 @@ def _move(draw, kind, names, modes, signals, points):
             unwinds = tuple((mode, draw.randrange(points)) for mode in _some(draw, modes, 0.3))
             answers.append((signal, draw.choice(names), unwinds))
     return ("call", here, there, draw.choice(names), _modes(draw, modes), tuple(answers))
+
+
+def lively(seed, many, procedures=4, modes=2, signals=2):
+    """So many programs in which most calls answer, most signals are raised, and answers begin inside of answers."""
+    draw = random.Random(seed)
+    found = []
+    for _ in range(many):
+        own = draw.randint(1, modes)
+        told = SIGNALS[:draw.randint(1, signals)]
+        names = NAMES[:draw.randint(2, procedures)]
+        made = [_lively(draw, name, names, own, told) for name in names]
+        found.append(Program(own, _modes(draw, own), told, *made))
+    return found
+
+
+def _lively(draw, name, names, modes, signals):
+    points = draw.randint(2, 3)
+    kinds = ["go", "call", "call", "call", "raise", "raise"]
+    moves = []
+    for _ in range(draw.randint(2, 5)):
+        move = _move(draw, draw.choice(kinds), names, modes, signals, points)
+        moves.append((move[0], min(move[1], draw.randrange(points))) + move[2:])
+    return Procedure(name, points, *moves, ("leave", draw.randrange(points), _modes(draw, modes)))

@@ -6,6 +6,8 @@ import inspect
 import unittest
 from pathlib import Path
 
+from answeredabove.ask.spare import least_sets
+from answeredabove.ask.watch import Answers
 from answeredabove.run.runs import Run
 from tests.helpers import NEED
 
@@ -35,7 +37,18 @@ FUNCTIONS = {
         "is_end": "program value", "outcome": "program", "can_end": "program end", "end_paper": "program end",
         "is_end_paper": "program end value",
     },
+    "answeredabove.ask.watch": {
+        "watched": "program", "answerers": "program site", "run_with": "program answer mode",
+    },
+    "answeredabove.ask.nests": {
+        "deepest": "program", "deep_run": "program many", "depth_paper": "program many",
+        "is_depth_paper": "program many value",
+    },
+    "answeredabove.ask.spare": {
+        "is_spare": "program answers", "spare_answers": "program", "least_sets": "program chosen aim",
+    },
 }
+CONSTANTS = {"answeredabove.ask.nests": {"MAX_DEPTH": 40}, "answeredabove.ask.spare": {"MAX_CHOSEN": 6}}
 METHODS = {
     "answeredabove.base.programs.Procedure": ["of", "called", "points", "moves", "__eq__", "__len__", "__str__"],
     "answeredabove.base.programs.Program": [
@@ -46,6 +59,10 @@ METHODS = {
     "answeredabove.run.runs.Run": [
         "__init__", "of", "own", "program", "called", "table", "choices", "situation", "situations", "mode", "has_ended",
         "deepest", "answered", "__add__", "back", "__len__", "__eq__", "__str__",
+    ],
+    "answeredabove.ask.watch.Answers": [
+        "__init__", "program", "begun", "__getitem__", "resumed", "unwound", "idle", "__len__", "__contains__", "__eq__",
+        "__str__",
     ],
 }
 
@@ -60,6 +77,11 @@ class TestInterface(unittest.TestCase):
                 self.assertIn(name, defined)
                 self.assertEqual(list(inspect.signature(function).parameters), parameters.split())
 
+    def test_constants(self):
+        for module, constants in CONSTANTS.items():
+            for name, value in constants.items():
+                self.assertEqual(getattr(importlib.import_module(module), name), value)
+
     def test_classes(self):
         for path, methods in METHODS.items():
             module, _, name = path.rpartition(".")
@@ -73,6 +95,12 @@ class TestInterface(unittest.TestCase):
         self.assertEqual(str(inspect.signature(Run.of)), "(program, name, mode, table, choices)")
         self.assertEqual(str(inspect.signature(Run.own)), "(program, start, choices)")
         self.assertEqual(str(inspect.signature(Run.own(NEED, 0, ()).back)), "(*, many=1)")
+
+    def test_arguments_of_answers(self):
+        self.assertEqual(str(inspect.signature(Answers)), "(program)")
+        for method in (Answers.begun, Answers.resumed, Answers.unwound):
+            self.assertEqual(str(inspect.signature(method)), "(self, answer)")
+        self.assertEqual(str(inspect.signature(least_sets)), "(program, chosen, *, aim='answered')")
 
     def test_nothing_beside_the_program(self):
         for folder in ("base", "text", "run", "know", "ask"):

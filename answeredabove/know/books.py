@@ -1,12 +1,12 @@
 """Books: what is told of contexts, so that all that follows from it is told, too."""
 
 from answeredabove.base.checks import check_program
-from answeredabove.base.words import is_ascending, is_below, is_mode_set, is_tuple
+from answeredabove.base.words import is_ascending, is_mode_set, is_tuple
 from answeredabove.know.masks import escapes_mask, escapes_of, mask_of, modes_of
 from answeredabove.know.meetings import Meeting
 from answeredabove.know.plans import Plan
 from answeredabove.know.solvers import Solver
-from answeredabove.know.tables import check_context, empty_table, is_table
+from answeredabove.know.tables import check_context, empty_table, is_context, is_escape
 from answeredabove.know.walks import Walk
 
 
@@ -31,13 +31,19 @@ def is_book(program, value):
     if not isinstance(value, dict):
         return False
     for context, pair in value.items():
-        if not _is_context(program, context) or not _is_pair(program, pair):
+        if not is_context(program, context) or not _is_pair(program, pair):
             return False
     plan = Plan(program)
-    told = {}
-    for (name, mode, table), (leaves, escapes) in value.items():
-        told[plan.packed(name, mode, table)] = (mask_of(leaves), escapes_mask(program, escapes))
+    told = told_by(plan, value)
     return all([_is_closed(plan, told, context) for context in told])
+
+
+def told_by(plan, book):
+    """What a book tells, by masks."""
+    told = {}
+    for (name, mode, table), (leaves, escapes) in book.items():
+        told[plan.packed(name, mode, table)] = (mask_of(leaves), escapes_mask(plan.source, escapes))
+    return told
 
 
 def own_contexts(program):
@@ -59,22 +65,12 @@ def book_known(solver, meeting):
     return {context: book[context] for context in sorted(book)}
 
 
-def _is_context(program, value):
-    if not is_tuple(value, 3) or value[0] not in program:
-        return False
-    return is_below(value[1], program.modes) and is_table(program, value[2])
-
-
 def _is_pair(program, value):
     if not is_tuple(value, 2) or not isinstance(value[1], tuple):
         return False
     if value[0] != () and not is_mode_set(value[0], program.modes):
         return False
-    return all([_is_escape(program, each) for each in value[1]]) and is_ascending(value[1])
-
-
-def _is_escape(program, value):
-    return is_tuple(value, 2) and value[0] in program.signals and is_below(value[1], program.modes)
+    return all([is_escape(program, each) for each in value[1]]) and is_ascending(value[1])
 
 
 def _is_closed(plan, told, context):

@@ -3,7 +3,7 @@
 from answeredabove.base.checks import check_program
 from answeredabove.base.words import is_tuple
 from answeredabove.errors import InvalidDerivation, InvalidFact
-from answeredabove.know.follows import Follower
+from answeredabove.know.follows import Follower, Lines
 from answeredabove.know.meetings import Meeting
 from answeredabove.know.solvers import Solver
 from answeredabove.know.steps import has_fact_form, is_last_step, is_middle_step, led_to, main_facts, shown_facts
@@ -58,7 +58,8 @@ def run_of(program, derivation):
     if not is_derivation(program, derivation):
         raise InvalidDerivation("this is no derivation of the program")
     fact = derivation[-1][0]
-    return Run.of(program, fact[1], fact[2], fact[3], Follower(program, derivation).taken())
+    follower = Follower(program, fact[3], (fact[2], (), (fact[1], 0)), Lines(derivation))
+    return Run.of(program, fact[1], fact[2], fact[3], follower.taken(derivation[-1:]))
 
 
 def _is_path(program, line, ahead):

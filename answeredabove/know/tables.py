@@ -1,7 +1,7 @@
 """Tables: in which modes each signal, raised in each mode, can be resumed from outside."""
 
 from answeredabove.base.checks import check_mode, check_name, check_program, check_signal
-from answeredabove.base.words import is_mode_set, is_tuple
+from answeredabove.base.words import is_below, is_mode_set, is_tuple
 from answeredabove.errors import InvalidOperation, InvalidTable
 
 
@@ -68,6 +68,18 @@ def check_context(program, name, mode, table):
     check_name(program, name)
     check_mode(program, mode)
     check_table(program, table)
+
+
+def is_context(program, value):
+    """Whether the value is a context of the program."""
+    if not is_tuple(value, 3) or value[0] not in program:
+        return False
+    return is_below(value[1], program.modes) and is_table(program, value[2])
+
+
+def is_escape(program, value):
+    """Whether the value is a pair of a signal and a mode of the program."""
+    return is_tuple(value, 2) and value[0] in program.signals and is_below(value[1], program.modes)
 
 
 def place_of(program, signal, mode):

@@ -78,6 +78,10 @@ class Trace:
             self._follow(self._states[at])
             at += 1
 
+    def path_to(self, state):
+        """The path to a pair of a point and a mode, or None if it is not come to."""
+        return self._paths[state][0] if state in self._paths else None
+
     def _follow(self, state):
         name = self._plan.order[self._context[0]]
         for index, move in enumerate(self._plan.source[name].moves):

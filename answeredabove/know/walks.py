@@ -14,6 +14,7 @@ class Walk:
     matters there; then calls are followed under this part of their inner tables.
 
     `needs` has the contexts that are met in one step, and `lacks` those that are lacking in `sure`, both as keys.
+    `made` has the calls that are followed, as triples of the call, the mode, and the mask of the inner table.
     """
 
     def __init__(self, plan, told, sure, scopes, context):
@@ -26,6 +27,7 @@ class Walk:
         self._inners = {}
         self.needs = {}
         self.lacks = {}
+        self.made = []
         self.come = 1 << mode
         self.left = 0
         self.escaped = 0
@@ -59,6 +61,7 @@ class Walk:
         if self._scopes is not None:
             inner &= self._scopes[(place, mode)]
         self.needs[(place, mode, inner)] = True
+        self.made.append((call, mode, inner))
         left, escaped = self._told.get((place, mode, inner), NOTHING)
         self.come |= left << there
         self.escaped |= escaped & passed
