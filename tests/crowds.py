@@ -65,3 +65,17 @@ def branching(kind):
         ("call", 0, 0, "main", MODES, (("ask", "two", ()),)), ("raise", 0, 1, "ask", MODES), ("leave", 1, MODES),
     )
     return Program(4, (0,), ("ask",), main, Procedure("one", 4, *first), Procedure("two", 4, *other))
+
+
+def pairing(many):
+    """A program the main procedure of which calls itself, answered by so many procedures; each one adds a mode to an
+    entry of the table, so that 2 to the power of so many tables are met, less those that are equal."""
+    names = ["hs", "ht", "hu", "hv", "hw", "hx", "hy", "hz"][:many]
+    pairs = [(0, 0), (0, 1), (0, 2), (1, 0), (1, 1), (1, 2), (2, 0), (2, 1)]
+    calls = [("call", 0, 1, "p", (0,), (("a", name, ()),)) for name in names]
+    main = Procedure("p", 2, *calls, ("raise", 0, 1, "a", (0,)), ("leave", 1, (0, 1, 2)))
+    answers = [
+        Procedure(name, 2, ("go", 0, 1, (pair,)), ("raise", 0, 1, "a", (0, 1, 2)), ("leave", 1, (0, 1, 2)))
+        for name, pair in zip(names, pairs)
+    ]
+    return Program(3, (0,), ("a",), main, *answers)

@@ -5,7 +5,9 @@ import unittest
 from answeredabove.ask.watch import Answers
 from answeredabove.base.programs import Procedure, Program
 from answeredabove.errors import InvalidProgram, UnknownName, UnknownSite
+from answeredabove.house.project import Project
 from answeredabove.run.runs import Run
+from answeredabove.text.shell import Shell
 
 FIX = Procedure("fix", 1, ("go", 0, 0, ((0, 1),)), ("leave", 0, (0, 1)))
 WORK = Procedure("work", 2, ("raise", 0, 1, "need", (0, 1)), ("leave", 1, (1,)))
@@ -55,7 +57,7 @@ ODD = [
     (True,), (False,), (False, True), ("leave", "0", (0,)), ((1, 0), (0, 0)), (((),),),
     nested(tuple, 12), nested(list, 12), nested(dict, 12),
     NEED, PASS, InvalidProgram("need"), UnknownName("need"), UnknownSite(("main", 0)), Run.own(NEED, 0, ()),
-    Answers(NEED),
+    Answers(NEED), Project(NEED), Shell(),
 ]
 BOOLS = [True, False]
 # None of these is a program.

@@ -8,7 +8,9 @@ from pathlib import Path
 
 from answeredabove.ask.spare import least_sets
 from answeredabove.ask.watch import Answers
+from answeredabove.house.project import Project
 from answeredabove.run.runs import Run
+from answeredabove.text.shell import Shell
 from tests.helpers import NEED
 
 TOP = Path(__file__).resolve().parent.parent
@@ -47,8 +49,18 @@ FUNCTIONS = {
     "answeredabove.ask.spare": {
         "is_spare": "program answers", "spare_answers": "program", "least_sets": "program chosen aim",
     },
+    "answeredabove.same.alike": {
+        "surrounding": "program name mode table", "are_alike": "one other name", "parting": "one other name",
+        "is_parting": "one other name value",
+    },
+    "answeredabove.same.editions": {
+        "new_ends": "one other", "replaced": "program other name", "changes": "one other",
+    },
 }
-CONSTANTS = {"answeredabove.ask.nests": {"MAX_DEPTH": 40}, "answeredabove.ask.spare": {"MAX_CHOSEN": 6}}
+CONSTANTS = {
+    "answeredabove.ask.nests": {"MAX_DEPTH": 40}, "answeredabove.ask.spare": {"MAX_CHOSEN": 6},
+    "answeredabove.text.shell": {"MAX_PROGRAMS": 8},
+}
 METHODS = {
     "answeredabove.base.programs.Procedure": ["of", "called", "points", "moves", "__eq__", "__len__", "__str__"],
     "answeredabove.base.programs.Program": [
@@ -64,6 +76,23 @@ METHODS = {
         "__init__", "program", "begun", "__getitem__", "resumed", "unwound", "idle", "__len__", "__contains__", "__eq__",
         "__str__",
     ],
+    "answeredabove.house.project.Project": [
+        "__init__", "program", "promises", "deeds", "__getitem__", "promise", "forget", "put", "drop", "answer", "start",
+        "undo", "redo", "trial", "during", "twin", "__contains__", "__len__", "__eq__", "__str__",
+    ],
+    "answeredabove.text.shell.Shell": [
+        "__init__", "run", "__call__", "names", "programs", "script", "__contains__", "__len__", "__eq__", "replayed",
+        "__str__",
+    ],
+}
+SIGNATURES = {
+    Answers: "(program)", Answers.begun: "(self, answer)", Answers.resumed: "(self, answer)",
+    Answers.unwound: "(self, answer)", least_sets: "(program, chosen, *, aim='answered')", Project: "(program)",
+    Project.promise: "(self, name, *terms)", Project.forget: "(self, name)", Project.put: "(self, procedure)",
+    Project.drop: "(self, name)", Project.answer: "(self, site, answers)", Project.start: "(self, starts)",
+    Project.undo: "(self, *, many=1)", Project.redo: "(self, *, many=1)", Project.trial: "(self)",
+    Project.during: "(self, call)", Project.twin: "(self)", Shell: "()", Shell.run: "(self, command)",
+    Shell.__call__: "(self, command)", Shell.replayed: "(script)",
 }
 
 
@@ -96,14 +125,12 @@ class TestInterface(unittest.TestCase):
         self.assertEqual(str(inspect.signature(Run.own)), "(program, start, choices)")
         self.assertEqual(str(inspect.signature(Run.own(NEED, 0, ()).back)), "(*, many=1)")
 
-    def test_arguments_of_answers(self):
-        self.assertEqual(str(inspect.signature(Answers)), "(program)")
-        for method in (Answers.begun, Answers.resumed, Answers.unwound):
-            self.assertEqual(str(inspect.signature(method)), "(self, answer)")
-        self.assertEqual(str(inspect.signature(least_sets)), "(program, chosen, *, aim='answered')")
+    def test_arguments_of_classes(self):
+        for call, arguments in SIGNATURES.items():
+            self.assertEqual(str(inspect.signature(call)), arguments)
 
     def test_nothing_beside_the_program(self):
-        for folder in ("base", "text", "run", "know", "ask"):
+        for folder in ("base", "text", "run", "know", "ask", "same", "house"):
             self.assertTrue((TOP / "answeredabove" / folder / "__init__.py").is_file())
 
 

@@ -91,7 +91,8 @@ class TestLanguage(unittest.TestCase):
             taken = {each.name for node in nodes(tree, ast.ImportFrom) for each in node.names}
             taken |= {node.name for node in nodes(tree, ast.ClassDef)}
             for function in nodes(tree, ast.FunctionDef, ast.Lambda):
-                self.assertEqual(bound(function) & (taken | set(dir(builtins))), set(), path)
+                # A doctest that ran ahead leaves `_` among them.
+                self.assertEqual(bound(function) & (taken | set(dir(builtins)) - {"_"}), set(), path)
             top = [node.name for node in tree.body if isinstance(node, (ast.FunctionDef, ast.ClassDef))]
             self.assertEqual(set(top) & (taken - {node.name for node in nodes(tree, ast.ClassDef)}), set(), path)
             self.assertEqual(len(top), len(set(top)), path)

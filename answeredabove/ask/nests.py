@@ -1,7 +1,7 @@
 """Answers inside of answers: how many raises can be open at once in the program's own runs."""
 
 from answeredabove.base.checks import check_program
-from answeredabove.base.words import is_between, is_tuple
+from answeredabove.base.words import is_between, is_count, is_tuple
 from answeredabove.errors import InvalidNumber
 from answeredabove.know.books import book_known, is_book, own_contexts, told_by
 from answeredabove.know.counts import MOST, Counting, bits_of, contexts_in, rules_within
@@ -125,16 +125,12 @@ def _are_counts(program, book, value):
 
 def _is_pair(program, escapes, value):
     """Whether the value is a pair of a number and a dict from just these escapes to numbers."""
-    if not is_tuple(value, 2) or not _is_count(value[0]) or not isinstance(value[1], dict):
+    if not is_tuple(value, 2) or not is_count(value[0]) or not isinstance(value[1], dict):
         return False
     for escape, number in value[1].items():
-        if not is_escape(program, escape) or escape not in escapes or not _is_count(number):
+        if not is_escape(program, escape) or escape not in escapes or not is_count(number):
             return False
     return len(value[1]) == len(escapes)
-
-
-def _is_count(value):
-    return isinstance(value, int) and not isinstance(value, bool) and value >= 0
 
 
 def _is_counted(plan, told, numbers, context):

@@ -15,6 +15,11 @@ def is_between(value, low, high):
     return isinstance(value, int) and not isinstance(value, bool) and low <= value <= high
 
 
+def is_count(value):
+    """Whether the value is an integer from 0 on."""
+    return isinstance(value, int) and not isinstance(value, bool) and value >= 0
+
+
 def is_below(value, many):
     """Whether the value is an integer from 0 to many, less one."""
     return is_between(value, 0, many - 1)

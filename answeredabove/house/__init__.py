@@ -1,0 +1,1 @@
+"""Programs that change while promises stay kept."""

@@ -1,0 +1,1 @@
+"""Procedures and programs compared with one another."""
