@@ -3,10 +3,11 @@
 from answeredabove.base.checks import check_program
 from answeredabove.base.words import is_below, is_tuple
 from answeredabove.errors import InvalidOperation
-from answeredabove.know.books import book_known, is_book, own_contexts, own_meeting
+from answeredabove.know.books import book_of, is_book, own_contexts
 from answeredabove.know.derivations import derivation_known, is_derivation
-from answeredabove.know.masks import escapes_of, modes_of
-from answeredabove.know.solvers import Solver
+from answeredabove.know.masks import MODE_SETS
+from answeredabove.know.meetings import cells_apart, cells_at, own_roots
+from answeredabove.know.plans import plan_of
 
 
 def is_end(program, value):
@@ -25,13 +26,10 @@ def outcome(program):
     check_program(program)
     left = 0
     escaped = 0
-    solver = Solver(program)
-    meeting = own_meeting(solver)
-    for context in own_contexts(program):
-        walk = meeting.walks[solver.plan.packed(*context)]
-        left |= walk.left
-        escaped |= walk.escaped
-    return modes_of(left), escapes_of(program, escaped)
+    for cell in cells_at(program, own_roots(program)):
+        left |= cell.left
+        escaped |= cell.escaped
+    return MODE_SETS[left], plan_of(program).escapes_of(escaped)
 
 
 def can_end(program, end):
@@ -44,13 +42,12 @@ def can_end(program, end):
 def end_paper(program, end):
     """A derivation of the end, or a book in which it does not come."""
     _check_end(program, end)
-    solver = Solver(program)
-    meeting = own_meeting(solver)
-    for fact in _facts_of(program, end):
-        derivation = derivation_known(solver, fact)
-        if derivation is not None:
-            return "derivation", derivation
-    return "book", book_known(solver, meeting)
+    plan = plan_of(program)
+    solver, cells = cells_apart(program, own_roots(program))
+    for cell, fact in zip(cells, _facts_of(program, end)):
+        if _is_told(end, MODE_SETS[cell.left], plan.escapes_of(cell.escaped)):
+            return "derivation", derivation_known(solver, program, fact)
+    return "book", book_of(program)
 
 
 def is_end_paper(program, end, value):

@@ -4,12 +4,13 @@ from answeredabove.base.checks import check_program
 from answeredabove.base.words import is_between, is_count, is_tuple
 from answeredabove.errors import InvalidNumber
 from answeredabove.know.books import book_known, is_book, own_contexts, told_by
-from answeredabove.know.counts import MOST, Counting, bits_of, contexts_in, rules_within
+from answeredabove.know.counts import MOST, Counting, contexts_in, rules_within
 from answeredabove.know.dives import Dive
 from answeredabove.know.guides import Guide
-from answeredabove.know.masks import escapes_of
-from answeredabove.know.plans import Plan
-from answeredabove.know.tables import empty_table, is_context, is_escape, place_of
+from answeredabove.know.masks import bits_of
+from answeredabove.know.meetings import own_roots
+from answeredabove.know.plans import plan_of
+from answeredabove.know.tables import empty_table, is_escape, mask_of_context
 from answeredabove.know.walks import Walk
 from answeredabove.run.runs import Run
 
@@ -20,7 +21,7 @@ def deepest(program):
     """The greatest number of raises that are open at once in the program's own runs, or "endless"."""
     check_program(program)
     guide = Guide(program)
-    most = _greatest(guide, program, _counting(guide, program))
+    most = _greatest(program, _counting(guide, program))
     return "endless" if most is None else most
 
 
@@ -39,7 +40,7 @@ def depth_paper(program, many):
     run = _run(guide, program, counting, many)
     if run is not None:
         return "run", run
-    return "counts", book_known(guide.solver, guide.meeting), _numbers(guide, program, counting)
+    return "counts", book_known(guide.plan, guide.meeting), _numbers(guide, counting)
 
 
 def is_depth_paper(program, many, value):
@@ -60,37 +61,33 @@ def _check_number(program, many):
         raise InvalidNumber(many)
 
 
-def _roots(guide, program):
-    return [guide.solver.plan.packed(*context) for context in own_contexts(program)]
-
-
 def _counting(guide, program):
-    return Counting(guide.meeting, program.modes, _roots(guide, program))
+    return Counting(guide.meeting, program.modes, own_roots(program))
 
 
-def _greatest(guide, program, counting):
+def _greatest(program, counting):
     """The greatest number of the main procedure's contexts, or None."""
-    numbers = [counting.numbers[(root, MOST)] for root in _roots(guide, program)]
+    numbers = [counting.numbers[(root, MOST)] for root in own_roots(program)]
     return None if None in numbers else max(numbers)
 
 
 def _run(guide, program, counting, many):
-    most = _greatest(guide, program, counting)
+    most = _greatest(program, counting)
     if most is not None and most < many:
         return None
     dive = Dive(program, guide, counting)
-    root = dive.dive(_roots(guide, program), many)
-    return guide.run_along(root[1], dive.parts(root, many))
+    root = dive.dive(own_roots(program), many)
+    return guide.run_along(guide.plan.mode_at(root[0]), dive.parts(root, many))
 
 
-def _numbers(guide, program, counting):
+def _numbers(guide, counting):
     """The numbers of all contexts that are needed, as a count book has them."""
     found = {}
     for context in counting.contexts:
         counts = {}
-        for at in bits_of(guide.meeting.walks[context].escaped):
-            counts[escapes_of(program, 1 << at)[0]] = counting.numbers[(context, at)]
-        found[guide.solver.plan.unpacked(context)] = (counting.numbers[(context, MOST)], counts)
+        for at in bits_of(guide.meeting.cell(context[0], context[1]).escaped):
+            counts[guide.plan.escapes_of(1 << at)[0]] = counting.numbers[(context, at)]
+        found[guide.plan.unpacked(context[0], context[1])] = (counting.numbers[(context, MOST)], counts)
     return {context: found[context] for context in sorted(found)}
 
 
@@ -109,18 +106,19 @@ def _are_counts(program, book, value):
     """Whether the value is a dict of numbers that makes a count book of the book."""
     if not isinstance(value, dict):
         return False
-    for context, pair in value.items():
-        if not is_context(program, context) or context not in book or not _is_pair(program, book[context][1], pair):
-            return False
-    plan = Plan(program)
-    told = told_by(plan, book)
+    plan = plan_of(program)
+    contexts = []
     numbers = {}
-    for context, (most, counts) in value.items():
-        packed = plan.packed(*context)
-        numbers[(packed, MOST)] = most
-        for signal, mode in counts:
-            numbers[(packed, place_of(program, signal, mode))] = counts[(signal, mode)]
-    return all([_is_counted(plan, told, numbers, plan.packed(*context)) for context in value])
+    for context, pair in value.items():
+        mask = mask_of_context(program, context)
+        if mask is None or context not in book or not _is_pair(program, book[context][1], pair):
+            return False
+        contexts.append((plan.spot_of(context[0], context[1]), mask))
+        numbers[(contexts[-1], MOST)] = pair[0]
+        for signal, mode in pair[1]:
+            numbers[(contexts[-1], plan.place_of(signal, mode))] = pair[1][(signal, mode)]
+    told = told_by(program, book)
+    return all([_is_counted(plan, told, numbers, context) for context in contexts])
 
 
 def _is_pair(program, escapes, value):
@@ -135,7 +133,7 @@ def _is_pair(program, escapes, value):
 
 def _is_counted(plan, told, numbers, context):
     """Whether all contexts that a context needs have numbers, and the rules for this context hold."""
-    rules = rules_within(plan.width, told, context, Walk(plan, told, told, None, context).made)
+    rules = rules_within(plan.width, told, context, Walk(plan, told, False, context[0], context[1]).made)
     if not all([(each, MOST) in numbers for each in contexts_in(rules)]):
         return False
     for head, first, second, _ in rules:

@@ -5,7 +5,7 @@ from answeredabove.base.checks import check_mode, check_program
 from answeredabove.base.moves import answer_to
 from answeredabove.base.programs import is_answer, is_site
 from answeredabove.errors import UnknownSite
-from answeredabove.know.masks import modes_of
+from answeredabove.know.masks import MODE_SETS
 
 
 def watched(program):
@@ -26,10 +26,10 @@ def answerers(program, site):
     lookout = Lookout(program)
     found = {}
     for here in lookout.links:
-        if here[0] == place:
-            come = lookout.walk(here).come >> (point * program.modes)
+        if here[0] // program.modes == place:
+            come = lookout.reach_of(here) >> (point * program.modes)
             for mode in [each for each in modes if (come >> each) & 1 == 1]:
-                found[(mode, here[3][at])] = True
+                found[(mode, here[2][at])] = True
     return tuple(sorted(found))
 
 
@@ -45,7 +45,7 @@ class Answers:
         self._unwinds = {}
         for answer in lookout.begins:
             self._begun[answer] = tuple(sorted(lookout.begins[answer]))
-            ends = [(mode, left) for mode in self._begun[answer] for left in modes_of(lookout.lefts(answer, mode))]
+            ends = [(mode, left) for mode in self._begun[answer] for left in MODE_SETS[lookout.lefts(answer, mode)]]
             unwinds = dict(answer_to(program.move(answer[:2]), answer[2])[2])
             self._resumes[answer] = tuple([end for end in ends if end[1] not in unwinds])
             self._unwinds[answer] = tuple([end for end in ends if end[1] in unwinds])

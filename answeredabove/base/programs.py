@@ -59,6 +59,15 @@ class Procedure:
         return f"procedure {self._called}, {self._points} points, {len(self._moves)} moves"
 
 
+class Notes:
+    """What other modules have found out about a program. As the program never changes, it stays true."""
+
+    def __init__(self):
+        self.plan = None
+        self.solver = None
+        self.apart = None
+
+
 class Program:
     """A program: modes, starts, signals, and procedures. It never changes."""
 
@@ -70,6 +79,7 @@ class Program:
         self._signals = signals
         self._procedures = procedures
         self._by_name = {procedure.called: procedure for procedure in procedures}
+        self._notes = Notes()
 
     @classmethod
     def of(cls, modes, starts, signals, procedures):
@@ -215,6 +225,11 @@ class Program:
             return Program.of(self._modes, self._starts, self._signals, procedures)
         except InvalidProgram:
             raise InvalidOperation("the result would be no program") from None
+
+
+def notes_of(program):
+    """What is kept about a program, for the modules that find it out."""
+    return program._notes
 
 
 def is_site(program, value):

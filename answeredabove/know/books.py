@@ -1,82 +1,93 @@
 """Books: what is told of contexts, so that all that follows from it is told, too."""
 
 from answeredabove.base.checks import check_program
-from answeredabove.base.words import is_ascending, is_mode_set, is_tuple
-from answeredabove.know.masks import escapes_mask, escapes_of, mask_of, modes_of
-from answeredabove.know.meetings import Meeting
-from answeredabove.know.plans import Plan
-from answeredabove.know.solvers import Solver
-from answeredabove.know.tables import check_context, empty_table, is_context, is_escape
+from answeredabove.base.words import is_below, is_tuple
+from answeredabove.know.masks import MODE_SETS
+from answeredabove.know.meetings import meeting_at, own_roots
+from answeredabove.know.plans import plan_of
+from answeredabove.know.tables import check_context, empty_table, mask_of_context, mask_of_modes
 from answeredabove.know.walks import Walk
 
 
 def contexts_met(program, name, mode, table):
     """The contexts that a context meets, ascending."""
-    check_context(program, name, mode, table)
-    solver = Solver(program)
-    meeting = Meeting(solver, [solver.plan.packed(name, mode, table)])
-    return tuple(sorted([solver.plan.unpacked(context) for context in meeting.walks]))
+    mask = check_context(program, name, mode, table)
+    meeting = meeting_at(program, [(plan_of(program).spot_of(name, mode), mask)])
+    return tuple([context for context, _, _ in meeting.ordered()])
 
 
 def book_of(program):
     """The book with what is true of the contexts that the program's own runs meet."""
     check_program(program)
-    solver = Solver(program)
-    return book_known(solver, own_meeting(solver))
+    return book_known(plan_of(program), meeting_at(program, own_roots(program)))
 
 
 def is_book(program, value):
     """Whether the value is a book of the program."""
     check_program(program)
-    if not isinstance(value, dict):
+    told = told_by(program, value)
+    if told is None:
         return False
-    for context, pair in value.items():
-        if not is_context(program, context) or not _is_pair(program, pair):
+    plan = plan_of(program)
+    for spot, mask in told:
+        if not _is_closed(plan, told, spot, mask):
             return False
-    plan = Plan(program)
-    told = told_by(plan, value)
-    return all([_is_closed(plan, told, context) for context in told])
+    return True
 
 
-def told_by(plan, book):
-    """What a book tells, by masks."""
+def told_by(program, value):
+    """What the value tells of contexts, all by masks, as a dict from pairs (spot, mask of the table) to masks of leaves
+    and escapes; or None if it has not the form of a book."""
+    if not isinstance(value, dict):
+        return None
+    plan = plan_of(program)
     told = {}
-    for (name, mode, table), (leaves, escapes) in book.items():
-        told[plan.packed(name, mode, table)] = (mask_of(leaves), escapes_mask(plan.source, escapes))
+    for context, pair in value.items():
+        mask = mask_of_context(program, context)
+        masks = _masks_of_pair(plan, pair)
+        if mask is None or masks is None:
+            return None
+        told[(plan.spot_of(context[0], context[1]), mask)] = masks
     return told
 
 
 def own_contexts(program):
-    """The contexts of the main procedure, each start, and the empty table."""
+    """The contexts of the main procedure, each start, and the empty table, as they are told outside."""
     return [(program.main, start, empty_table(program)) for start in program.starts]
 
 
-def own_meeting(solver):
-    """The contexts that the program's own runs meet."""
-    return Meeting(solver, [solver.plan.packed(*context) for context in own_contexts(solver.plan.source)])
-
-
-def book_known(solver, meeting):
+def book_known(plan, meeting):
     """The book with what is true of the contexts of a meeting."""
     book = {}
-    for context, walk in meeting.walks.items():
-        pair = (modes_of(walk.left), escapes_of(solver.plan.source, walk.escaped))
-        book[solver.plan.unpacked(context)] = pair
-    return {context: book[context] for context in sorted(book)}
+    for context, spot, mask in meeting.ordered():
+        cell = meeting.cell(spot, mask)
+        book[context] = (MODE_SETS[cell.left], plan.escapes_of(cell.escaped))
+    return book
 
 
-def _is_pair(program, value):
+def _masks_of_pair(plan, value):
+    """The masks of a pair of leaves and escapes, or None if the value is none."""
     if not is_tuple(value, 2) or not isinstance(value[1], tuple):
-        return False
-    if value[0] != () and not is_mode_set(value[0], program.modes):
-        return False
-    return all([is_escape(program, each) for each in value[1]]) and is_ascending(value[1])
+        return None
+    left = mask_of_modes(value[0], plan.width)
+    if left is None:
+        return None
+    escaped = 0
+    for each in value[1]:
+        if not is_tuple(each, 2) or each[0] not in plan.words or not is_below(each[1], plan.width):
+            return None
+        bit = 1 << plan.place_of(each[0], each[1])
+        # Ascending: what is behind is greater than all that is ahead.
+        if bit <= escaped:
+            return None
+        escaped |= bit
+    return left, escaped
 
 
-def _is_closed(plan, told, context):
+def _is_closed(plan, told, spot, mask):
     """Whether all that is met in one step is told of, and all that follows for the context is told."""
-    walk = Walk(plan, told, told, None, context)
-    if not all([need in told for need in walk.needs]):
+    walk = Walk(plan, told, False, spot, mask)
+    if walk.lacks or not all([(call.base + mode, inner) in told for call, mode, inner in walk.made]):
         return False
-    left, escaped = told[context]
+    left, escaped = told[(spot, mask)]
     return walk.left & ~left == 0 and walk.escaped & ~escaped == 0

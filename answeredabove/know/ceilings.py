@@ -1,39 +1,112 @@
-"""Ceilings: leaves and escapes of contexts that are surely not less than what is true."""
+"""Ceilings: leaves and escapes of contexts that are surely not less than what is true.
 
-from answeredabove.know.plans import entries_mask
-from answeredabove.know.walks import Walk
+Under a ceiling what is called runs under the full table; so what a call does there is always the same, but for what
+answers in it, which runs under the table of the context.
+"""
+
+from answeredabove.know.walks import NOTHING, Walk
+
+
+def tops_of(plan, spots, told):
+    """The ceilings of spots under the full table, by pairs (spot, mask), with those that are told, on which they rest
+    beside one another."""
+    found = {key: told[key] for key in told}
+    callers = [spot for spot in spots if (plan.calling >> spot) & 1 == 1]
+    waiting = spots
+    while len(waiting) > 0:
+        changed = False
+        for spot in waiting:
+            walk = Walk(plan, found, True, spot, plan.everything)
+            masks = (walk.left, walk.escaped)
+            changed = changed or found.get((spot, plan.everything), NOTHING) != masks
+            found[(spot, plan.everything)] = masks
+        # What calls nothing rests on nothing.
+        waiting = callers if changed else []
+    return found
 
 
 class Ceilings:
-    """The ceilings of contexts, found for one table after another: what is called is taken to run under the full table.
-
-    `scopes` tells for each procedure and mode the part of a table that matters there: that of the signals and modes
-    which could escape. What is true under a table is true under this part of it alone.
-    """
+    """The ceilings of contexts, found as they are asked for."""
 
     def __init__(self, plan):
         self._plan = plan
+        self._acts = [None for _ in plan.sheets]
         self._found = {}
-        self._find(plan.everything)
-        escapes = {(place, mode): masks[1] for (place, mode, _), masks in self._found.items()}
-        self.scopes = {key: entries_mask(plan, mask) for key, mask in escapes.items()}
+        self._done = {}
 
-    def above(self, context):
+    def above(self, spot, mask):
         """The masks of the ceiling of a context."""
-        if context not in self._found:
-            self._find(context[2])
-        return self._found[context]
+        if (spot, mask) not in self._done:
+            self._find(spot, mask)
+        return self._found[(spot, mask)]
 
-    def _find(self, table):
-        contexts = [(place, mode, table) for place in self._plan.upward for mode in range(self._plan.width)]
-        needs = {}
-        waiting = contexts
+    def _find(self, first, mask):
+        """Finds the ceiling of a spot under a table, and of all that answers there."""
+        users = {first: {}}
+        waiting = [first]
         while len(waiting) > 0:
-            changed = {}
-            for context in waiting:
-                walk = Walk(self._plan, self._found, None, None, context)
-                needs[context] = list(walk.needs)
-                if self._found.get(context) != (walk.left, walk.escaped):
-                    self._found[context] = (walk.left, walk.escaped)
-                    changed[context] = True
-            waiting = [context for context in contexts if any([need in changed for need in needs[context]])]
+            again = {}
+            for spot in waiting:
+                masks, asked = self._walked(spot, mask)
+                for need in asked:
+                    if need not in users:
+                        users[need] = {}
+                        again[need] = True
+                    users[need][spot] = True
+                if self._found.get((spot, mask), NOTHING) != masks:
+                    for user in users[spot]:
+                        again[user] = True
+                self._found[(spot, mask)] = masks
+            waiting = list(again)
+        for spot in users:
+            self._done[(spot, mask)] = True
+
+    def _walked(self, spot, mask):
+        """The masks that follow for a spot from what is found, and the spots that are not done on which they rest."""
+        sheet, come = self._plan.first[spot]
+        acts = self._acts_of(spot // self._plan.width)
+        escaped = 0
+        asked = {}
+        todo = come & sheet.active
+        while todo > 0:
+            bit = todo & -todo
+            raised, more, escapes, answering = acts[bit]
+            escaped |= escapes
+            for escape, shift, there in raised:
+                escaped |= escape
+                more |= there[(mask >> shift) & self._plan.full]
+            for other, led in answering:
+                if (other, mask) not in self._done:
+                    asked[other] = True
+                left, others = self._found.get((other, mask), NOTHING)
+                escaped |= others
+                for mode, states in led:
+                    if left & mode > 0:
+                        more |= states
+            more &= ~come
+            come |= more
+            todo = (todo ^ bit) | (more & sheet.active)
+        return (sheet.left_from(come), escaped), list(asked)
+
+    def _acts_of(self, place):
+        """What can be done in the active states of a procedure: what can be raised, as a sheet has it; the states to
+        which calls lead, and what escapes from them; and the spots of what answers in them, with the states to which
+        these unwind."""
+        if self._acts[place] is None:
+            acts = self._plan.sheets[place].acts
+            self._acts[place] = {bit: self._act(acts[bit]) for bit in acts}
+        return self._acts[place]
+
+    def _act(self, act):
+        raised, calls = act
+        come = 0
+        escapes = 0
+        answering = []
+        for call, mode in calls:
+            left, escaped = self._plan.tops[(call.base + mode, self._plan.everything)]
+            come |= call.there[left]
+            escapes |= escaped & call.passed
+            for spot, bit, _, _, led in call.asks:
+                if escaped & bit > 0 and (spot, led) not in answering:
+                    answering.append((spot, led))
+        return raised, come, escapes, answering

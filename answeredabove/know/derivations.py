@@ -4,10 +4,10 @@ from answeredabove.base.checks import check_program
 from answeredabove.base.words import is_tuple
 from answeredabove.errors import InvalidDerivation, InvalidFact
 from answeredabove.know.follows import Follower, Lines
-from answeredabove.know.meetings import Meeting
-from answeredabove.know.solvers import Solver
+from answeredabove.know.meetings import cells_apart
+from answeredabove.know.plans import plan_of
 from answeredabove.know.steps import has_fact_form, is_last_step, is_middle_step, led_to, main_facts, shown_facts
-from answeredabove.know.tables import place_of
+from answeredabove.know.tables import mask_of_table
 from answeredabove.know.traces import derivation_from
 from answeredabove.run.runs import Run
 
@@ -36,21 +36,23 @@ def derivation_of(program, fact):
     check_program(program)
     if not has_fact_form(program, fact):
         raise InvalidFact("this is no fact of the program")
-    solver = Solver(program)
-    context = solver.plan.packed(fact[1], fact[2], fact[3])
-    Meeting(solver, [context])
-    return derivation_known(solver, fact)
-
-
-def derivation_known(solver, fact):
-    """A derivation of a fact of a context that the solver knows as a whole, or None if it is not true."""
-    context = solver.plan.packed(fact[1], fact[2], fact[3])
-    left, escaped = solver.sure[context]
+    plan = plan_of(program)
+    roots = [(plan.spot_of(fact[1], fact[2]), mask_of_table(program, fact[3]))]
+    solver, (cell,) = cells_apart(program, roots)
     if fact[0] == "leaves":
-        true = (left >> fact[4]) & 1 == 1
+        true = (cell.left >> fact[4]) & 1 == 1
     else:
-        true = (escaped >> place_of(solver.plan.source, fact[4], fact[5])) & 1 == 1
-    return derivation_from(solver, context, (fact[0],) + fact[4:]) if true else None
+        true = (cell.escaped >> plan.place_of(fact[4], fact[5])) & 1 == 1
+    return derivation_known(solver, program, fact) if true else None
+
+
+def derivation_known(solver, program, fact):
+    """A derivation of a fact that is true, as the solver finds it."""
+    spot = solver.plan.spot_of(fact[1], fact[2])
+    mask = mask_of_table(program, fact[3])
+    cell = solver.cell(spot, mask)
+    solver.settle(cell)
+    return derivation_from(solver, cell, (fact[0],) + fact[4:], mask)
 
 
 def run_of(program, derivation):

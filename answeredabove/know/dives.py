@@ -5,7 +5,6 @@ from heapq import heappop, heappush
 from answeredabove.base.moves import modes_in
 from answeredabove.errors import TooMany
 from answeredabove.know.counts import MOST
-from answeredabove.know.tables import place_of
 from answeredabove.run.runs import MOST_STEPS
 
 
@@ -53,7 +52,7 @@ class Dive:
             elif how is not None:
                 rule, one, other = how
                 if rule[3] is not None:
-                    found.append(self._guide.entering(quantity[0], self._index_of(rule), rule[3][1]))
+                    found.append(self._guide.entering(quantity[0], rule[3][0].site[1], rule[3][1]))
                 if other is not None:
                     waiting.append((rule[2], other, ahead))
                 # A way to the most ends ahead of an escape, where it goes by one, but not where this one is answered.
@@ -67,16 +66,12 @@ class Dive:
             if rule[2] != rule[1]:
                 self._users[rule[2]].append((rule, more))
 
-    def _index_of(self, rule):
-        return self._program.calls[rule[3][0]][1]
-
     def _cost_of(self, rule):
         """How long it is up to the call of a rule, which is made, too."""
         if rule[3] is None:
             return 0
-        context = rule[0][0]
-        move = self._program[self._guide.solver.plan.order[context[0]]].moves[self._index_of(rule)]
-        return len(self._guide.way(context, move[1], rule[3][1])) + 1
+        call, mode = rule[3]
+        return len(self._guide.way(rule[0][0], self._program.move(call.site)[1], mode)) + 1
 
     def _fill(self, level):
         """Finds the shortest ways to this level of all quantities, where those to all lower ones are known."""
@@ -104,14 +99,13 @@ class Dive:
             self._ways.append((quantity, how))
 
     def _push_raises(self, context):
-        name = self._guide.solver.plan.order[context[0]]
-        for index, move in enumerate(self._program[name].moves):
+        plan = self._guide.plan
+        for index, move in enumerate(self._program[plan.name_at(context[0])].moves):
             if move[0] == "raise":
                 for mode in modes_in(move):
                     path = self._guide.way(context, move[1], mode)
                     if path is not None:
-                        at = place_of(self._program, move[3], mode)
-                        self._push(len(path) + 1, (context, at), (index, mode))
+                        self._push(len(path) + 1, (context, plan.place_of(move[3], mode)), (index, mode))
 
     def _push_sum(self, rule, more, level):
         """Takes a rule with two quantities that make this level together, with the raise between them."""

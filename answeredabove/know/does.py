@@ -3,43 +3,41 @@
 from answeredabove.base.checks import check_program
 from answeredabove.base.programs import is_call
 from answeredabove.errors import UnknownSite
-from answeredabove.know.masks import escapes_of, modes_of, table_mask, table_of
-from answeredabove.know.meetings import Meeting
-from answeredabove.know.plans import answering, inner_mask
-from answeredabove.know.solvers import Solver
+from answeredabove.know.masks import MODE_SETS, bits_of, mask_of
+from answeredabove.know.meetings import cells_at
+from answeredabove.know.plans import plan_of
 from answeredabove.know.tables import check_context, check_table
 
 
 def does(program, name, mode, table):
     """The pair of the leaves and the escapes of a context."""
-    walk = _walk(program, name, mode, table)
-    return modes_of(walk.left), escapes_of(program, walk.escaped)
+    mask = check_context(program, name, mode, table)
+    plan = plan_of(program)
+    cell = cells_at(program, [(plan.spot_of(name, mode), mask)])[0]
+    return MODE_SETS[cell.left], plan.escapes_of(cell.escaped)
 
 
 def reached(program, name, mode, table):
     """The pairs of a point and a mode to which the procedure comes in a context, ascending."""
-    walk = _walk(program, name, mode, table)
-    states = modes_of(walk.come)
-    return tuple([(state // program.modes, state % program.modes) for state in states])
+    mask = check_context(program, name, mode, table)
+    plan = plan_of(program)
+    cell = cells_at(program, [(plan.spot_of(name, mode), mask)])[0]
+    return tuple([(state // plan.width, plan.mode_at(state)) for state in bits_of(cell.come)])
 
 
 def inner_table(program, table, site):
     """The inner table of the call at a site under a table."""
     check_program(program)
-    check_table(program, table)
+    given = check_table(program, table)
+    mask = given
     if not is_call(program, site):
         raise UnknownSite(site)
-    solver = Solver(program)
-    call = solver.plan.calling[site]
-    mask = table_mask(program, table)
-    for context in answering(solver.plan, mask, call):
-        # Each context has a limit of its own, so each is asked alone.
-        Meeting(solver, [context])
-    return table_of(program, inner_mask(solver.plan, solver.sure, mask, call))
-
-
-def _walk(program, name, mode, table):
-    check_context(program, name, mode, table)
-    solver = Solver(program)
-    context = solver.plan.packed(name, mode, table)
-    return Meeting(solver, [context]).walks[context]
+    plan = plan_of(program)
+    for signal, by, unwinds in program.move(site)[5]:
+        resumes = plan.full & ~mask_of([mode for mode, _ in unwinds])
+        for mode in range(program.modes):
+            shift = plan.place_of(signal, mode) * program.modes
+            # Each context has a limit of its own, so each is asked alone.
+            left = cells_at(program, [(plan.spot_of(by, mode), given)])[0].left
+            mask = mask & ~(plan.full << shift) | ((left & resumes) << shift)
+    return plan.table_of(mask)

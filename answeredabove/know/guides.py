@@ -1,10 +1,9 @@
 """Guides: parts of the program's own runs, which lead along contexts that are met."""
 
-from answeredabove.know.books import own_meeting
 from answeredabove.know.derivations import derivation_known
 from answeredabove.know.follows import Follower
-from answeredabove.know.masks import escapes_of
-from answeredabove.know.solvers import Solver
+from answeredabove.know.meetings import MOST_TABLES, Meeting, cells_apart, own_roots
+from answeredabove.know.plans import plan_of
 from answeredabove.know.tables import empty_table
 from answeredabove.know.traces import Trace
 from answeredabove.run.runs import Run
@@ -13,40 +12,44 @@ from answeredabove.run.runs import Run
 class Guide:
     """What is known of the contexts that the program's own runs meet, and the ways through them.
 
-    Contexts are told by masks. A part is a pair of a fact and a path, as a Follower takes them.
+    Contexts are told as pairs (spot, mask of the table). A part is a pair of a fact and a path, as a Follower takes
+    them. The ways do not hang on what was asked before.
     """
 
     def __init__(self, program):
-        self.solver = Solver(program)
-        self.meeting = own_meeting(self.solver)
+        self.plan = plan_of(program)
+        self._solver, _ = cells_apart(program, own_roots(program))
+        self.meeting = Meeting(self._solver, own_roots(program), MOST_TABLES)
         self._program = program
         self._traces = {}
         self._paths = {}
 
     def way(self, context, point, mode):
         """The path to a point in a mode within a context, or None if the context does not come to it."""
-        if context not in self._traces:
-            told = {need: self.solver.sure[need] for need in self.meeting.walks[context].needs}
-            self._traces[context] = Trace(self.solver.plan, told, context)
-        return self._traces[context].path_to((point, mode))
+        cell = self.meeting.cell(context[0], context[1])
+        if cell.number not in self._traces:
+            told = {(need.spot, need.mask): (need.left, need.escaped) for need in cell.needs}
+            self._traces[cell.number] = Trace(self.plan, told, cell.spot, cell.mask)
+        found = self._traces[cell.number].found((point, mode))
+        return None if found is None else found[0]
 
     def entering(self, context, index, mode):
         """The part within a context up to the call or the raise with this index, made in this mode."""
-        name = self.solver.plan.order[context[0]]
+        name = self.plan.name_at(context[0])
         path = self.way(context, self._program[name].moves[index][1], mode)
-        return ("enters",) + self.solver.plan.unpacked(context), path + (("enter", index),)
+        return ("enters",) + self.plan.unpacked(context[0], context[1]), path + (("enter", index),)
 
     def escaping(self, context, at):
         """The part that goes through a context up to the raise that escapes from it with this bit."""
-        escape = escapes_of(self._program, 1 << at)[0]
-        fact = ("escapes",) + self.solver.plan.unpacked(context) + escape
+        escape = self.plan.escapes_of(1 << at)[0]
+        fact = ("escapes",) + self.plan.unpacked(context[0], context[1]) + escape
         return fact, self.path_of(fact)
 
     def path_of(self, fact):
         """The path of a fact that is true."""
         if fact not in self._paths:
             # Lines that are there already rest on none of the new ones, so they can stay.
-            for told, path in derivation_known(self.solver, fact):
+            for told, path in derivation_known(self._solver, self._program, fact):
                 self._paths.setdefault(told, path)
         return self._paths[fact]
 

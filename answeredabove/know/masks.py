@@ -4,7 +4,11 @@ Bit m of a mask of modes is the mode m. A table's mask has its entries one behin
 has a bit for each signal and each mode, in the same order as a table has its entries.
 """
 
-from answeredabove.know.tables import place_of
+# The modes of each mask of modes.
+MODE_SETS = (
+    (), (0,), (1,), (0, 1), (2,), (0, 2), (1, 2), (0, 1, 2),
+    (3,), (0, 3), (1, 3), (0, 1, 3), (2, 3), (0, 2, 3), (1, 2, 3), (0, 1, 2, 3),
+)
 
 
 def mask_of(modes):
@@ -15,35 +19,16 @@ def mask_of(modes):
     return mask
 
 
-def modes_of(mask):
-    """The modes of a mask, ascending."""
-    return tuple([mode for mode in range(mask.bit_length()) if (mask >> mode) & 1 == 1])
+def bits_of(mask):
+    """The bits of a mask, ascending."""
+    return [at for at in range(mask.bit_length()) if (mask >> at) & 1 == 1]
 
 
-def table_mask(program, table):
-    """The mask of a table."""
+def table_mask(table, width):
+    """The mask of a table, where there are so many modes."""
     mask = 0
-    for at, modes in enumerate(table):
-        mask |= mask_of(modes) << (at * program.modes)
+    shift = 0
+    for modes in table:
+        mask |= mask_of(modes) << shift
+        shift += width
     return mask
-
-
-def table_of(program, mask):
-    """The table of a mask."""
-    full = (1 << program.modes) - 1
-    many = len(program.signals) * program.modes
-    return tuple([modes_of((mask >> (at * program.modes)) & full) for at in range(many)])
-
-
-def escapes_mask(program, escapes):
-    """The mask of pairs of a signal and a mode."""
-    mask = 0
-    for signal, mode in escapes:
-        mask |= 1 << place_of(program, signal, mode)
-    return mask
-
-
-def escapes_of(program, mask):
-    """The pairs of a signal and a mode of a mask, ascending."""
-    modes = program.modes
-    return tuple([(program.signals[at // modes], at % modes) for at in modes_of(mask)])

@@ -1,132 +1,155 @@
-"""Plans: what the moves of a program's procedures do, told by masks, made once for many walks.
+"""Plans: what all procedures of a program do, told by masks, made once for all questions about the program."""
 
-A procedure is told by its index, and a context by (index, mode, mask of the table). The states of a procedure are its
-pairs of a point and a mode; the bit of a state is the point times the number of modes, plus the mode.
-"""
+from answeredabove.base.moves import names_in
+from answeredabove.base.programs import notes_of
+from answeredabove.know.ceilings import tops_of
+from answeredabove.know.masks import MODE_SETS, bits_of
+from answeredabove.know.sheets import Sheet
 
-from answeredabove.base.moves import modes_in, names_in, signals_answered
-from answeredabove.know.masks import mask_of, table_mask, table_of
-from answeredabove.know.tables import place_of
+
+MOST_KEPT = 5000
 
 
 class Plan:
-    """The plan of a program: `rows` tells for each procedure and state what can be done there, `calling` what each call
-    does, and `ranks` how many procedures each one can come to by calls and answers, in the end, itself too. So one has
-    a lower rank than another one that needs it and that it does not need; `upward` has them from low to high."""
+    """The plan of a program. What it tells of a procedure is made as soon as somebody asks for one of its spots.
+
+    `words` are the signals of the program, and `bodies` its procedures; `sheets` tells what each one does, `first` has
+    for each spot its sheet and the states to which it comes at once, and `calling` has the bits of the spots of
+    procedures that have calls. `ranks` tells how many procedures each one can come to by calls and answers, in the end,
+    itself too: so one has a lower rank than another one that needs it and that it does not need.
+
+    `scopes` tells for each spot the part of a table that matters there: the entries of the signals and modes that could
+    escape. What is true under a table is true under this part of it alone. `tops` has the ceilings of spots under the
+    full table, by pairs (spot, mask).
+    """
 
     def __init__(self, program):
-        self.source = program
+        self.words = program.signals
         self.width = program.modes
-        self.full = (1 << program.modes) - 1
-        self.everything = (1 << (len(program.signals) * program.modes * program.modes)) - 1
+        self.full = (1 << self.width) - 1
+        self.block = (1 << (self.width * self.width)) - 1
+        self.everything = (1 << (len(self.words) * self.width * self.width)) - 1
+        self.bodies = program.procedures
         self.order = program.names
-        self.places = {name: place for place, name in enumerate(program.names)}
-        self.calling = {site: _call(self, number, program.move(site)) for number, site in enumerate(program.calls)}
-        self.rows = [_rows(self, procedure) for procedure in program.procedures]
-        self.ranks = _ranks(self)
-        self.upward = [place for rank in range(len(program) + 1) for place in _of_rank(self.ranks, rank)]
+        self.places = {name: place for place, name in enumerate(self.order)}
+        self.sheets = [None for _ in self.order]
+        self.ranks = [0 for _ in self.order]
+        self.calling = 0
+        self.first = [None] * (len(self.order) * self.width)
+        self.scopes = [0] * (len(self.order) * self.width)
+        self.tops = {}
+        self._tables = {}
+        self._escapes = {}
 
-    def packed(self, name, mode, table):
-        """A context by masks."""
-        return self.places[name], mode, table_mask(self.source, table)
+    def spot_of(self, name, mode):
+        """The spot of a procedure and a mode."""
+        place = self.places[name]
+        if self.sheets[place] is None:
+            self._prepare(place)
+        return place * self.width + mode
 
-    def unpacked(self, context):
+    def call_at(self, site):
+        """The call at a site of a procedure of which a spot was asked for."""
+        return self.sheets[self.places[site[0]]].calls_made[site[1]]
+
+    def name_at(self, spot):
+        """The name of the procedure of a spot."""
+        return self.order[spot // self.width]
+
+    def mode_at(self, spot):
+        """The mode of a spot."""
+        return spot - spot // self.width * self.width
+
+    def unpacked(self, spot, mask):
         """A context as it is told outside."""
-        place, mode, mask = context
-        return self.order[place], mode, table_of(self.source, mask)
+        return self.name_at(spot), self.mode_at(spot), self.table_of(mask)
+
+    def place_of(self, signal, mode):
+        """The index of a table's entry, and the bit of an escape, for a signal and a mode."""
+        return self.words.index(signal) * self.width + mode
+
+    def table_of(self, mask):
+        """The table of a mask."""
+        if mask not in self._tables:
+            if len(self._tables) >= MOST_KEPT:
+                self._tables = {}
+            shifts = range(0, len(self.words) * self.width * self.width, self.width)
+            self._tables[mask] = tuple([MODE_SETS[(mask >> shift) & self.full] for shift in shifts])
+        return self._tables[mask]
+
+    def escapes_of(self, mask):
+        """The pairs of a signal and a mode of a mask, ascending."""
+        if mask not in self._escapes:
+            found = [(self.words[at // self.width], self.mode_at(at)) for at in bits_of(mask)]
+            self._escapes[mask] = tuple(found)
+        return self._escapes[mask]
+
+    def _prepare(self, place):
+        """Makes the sheets of a procedure and of all that it can come to, and what rests on them."""
+        reach = _reach(self, place)
+        new = [each for each in reach if self.sheets[each] is None]
+        for each in new:
+            self.sheets[each] = Sheet(self, each)
+            if len(self.sheets[each].calls_made) > 0:
+                self.calling |= self.full << (each * self.width)
+            for mode in range(self.width):
+                self.first[each * self.width + mode] = (self.sheets[each], self.sheets[each].spread[0][1 << mode])
+        for each in new:
+            self.ranks[each] = len(reach) if each == place else len(_reach(self, each))
+        for rank in sorted(set([self.ranks[each] for each in new])):
+            places = [each for each in new if self.ranks[each] == rank]
+            spots = [each * self.width + mode for each in places for mode in range(self.width)]
+            self.tops = tops_of(self, spots, self.tops)
+        entries = {}
+        for each in new:
+            for spot in range(each * self.width, (each + 1) * self.width):
+                escapes = self.tops[(spot, self.everything)][1]
+                if escapes not in entries:
+                    entries[escapes] = self._entries(escapes)
+                self.scopes[spot] = entries[escapes]
+        for each in new:
+            for call in self.sheets[each].calls_made.values():
+                self._complete(call)
+
+    def _entries(self, escapes):
+        """The mask of the entries of a table that belong to the escapes of a mask, each entry with all modes."""
+        mask = 0
+        for at in bits_of(escapes):
+            mask |= self.full << (at * self.width)
+        return mask
+
+    def _complete(self, call):
+        """Adds to a call what rests on scopes; what cannot escape from it is not asked for."""
+        could = 0
+        for mode in call.made_in:
+            could |= self.tops[(call.base + mode, self.everything)][1]
+        for by, first, shift, resumes, led in call.replies:
+            for mode in range(self.width):
+                call.around |= self.scopes[by + mode]
+                bit = 1 << (first + mode)
+                if could & bit > 0:
+                    call.asks.append((by + mode, bit, shift + mode * self.width, resumes, led))
 
 
-def inner_mask(plan, leaves, table, call):
-    """The mask of the inner table of a call, resting on the masks of the leaves of its answers' procedures."""
-    inner = table & call[4]
-    for by, _, shift, resumes, _ in call[5]:
-        for mode in range(plan.width):
-            inner |= (leaves[(by, mode, table)][0] & resumes) << (shift + mode * plan.width)
-    return inner
+def plan_of(program):
+    """The plan of a program, which is made once."""
+    notes = notes_of(program)
+    if notes.plan is None:
+        notes.plan = Plan(program)
+    return notes.plan
 
 
-def answering(plan, table, call):
-    """The contexts of the procedures by which a call answers, in every mode."""
-    return [(answer[0], mode, table) for answer in call[5] for mode in range(plan.width)]
-
-
-def _rows(plan, procedure):
-    states = [(point, mode) for point in range(procedure.points) for mode in range(plan.width)]
-    return [_row(plan, procedure, point, mode) for point, mode in states]
-
-
-def _row(plan, procedure, point, mode):
-    """The states to which goes lead, the modes that are left, what raises do, and what calls do."""
-    led = 0
-    left = 0
-    raised = []
-    calls = []
-    for index, move in enumerate(procedure.moves):
-        if move[1] == point and move[0] == "go":
-            led |= mask_of([move[2] * plan.width + new for old, new in move[3] if old == mode])
-        elif move[1] == point and mode in modes_in(move):
-            if move[0] == "leave":
-                left = 1 << mode
-            elif move[0] == "raise":
-                raised.append(_raise(plan, move, mode))
-            else:
-                calls.append(plan.calling[(procedure.called, index)])
-    return led, left, tuple(raised), tuple(calls)
-
-
-def _raise(plan, move, mode):
-    """The bit of the escape, and how far the table's entry and the states behind the raise are shifted."""
-    at = place_of(plan.source, move[3], mode)
-    return 1 << at, at * plan.width, move[2] * plan.width
-
-
-def _call(plan, number, move):
-    """The number of the call, the procedure that is called, the shift of the states behind the call, the masks of the
-    escapes that it lets pass and of the part of the table that it keeps, and its answers."""
-    signals = [signal for signal in plan.source.signals if signal not in signals_answered(move)]
-    passed = [place_of(plan.source, signal, mode) for signal in signals for mode in range(plan.width)]
-    kept = entries_mask(plan, mask_of(passed))
-    answers = [_answer(plan, answer) for answer in move[5]]
-    return number, plan.places[move[3]], move[2] * plan.width, mask_of(passed), kept, tuple(answers)
-
-
-def entries_mask(plan, escapes):
-    """The mask of the entries of a table that belong to the escapes of a mask, each entry with all modes."""
-    mask = 0
-    for at in range(escapes.bit_length()):
-        if (escapes >> at) & 1 == 1:
-            mask |= plan.full << (at * plan.width)
-    return mask
-
-
-def _answer(plan, answer):
-    """The answer's procedure, the shifts of its signal's escapes and entries, the mask of the modes in which it
-    resumes, and for each mode in which it unwinds its bit and the bit of the state to which it unwinds."""
-    signal, name, unwinds = answer
-    first = place_of(plan.source, signal, 0)
-    resumes = plan.full & ~mask_of([mode for mode, _ in unwinds])
-    states = [(1 << mode, 1 << (point * plan.width + mode)) for mode, point in unwinds]
-    return plan.places[name], first, first * plan.width, resumes, tuple(states)
-
-
-def _ranks(plan):
-    near = [_near(plan, procedure) for procedure in plan.source.procedures]
-    ranks = []
-    for place in range(len(near)):
-        found = [place]
-        at = 0
-        while at < len(found):
-            found.extend([other for other in near[found[at]] if other not in found])
-            at += 1
-        ranks.append(len(found))
-    return ranks
-
-
-def _of_rank(ranks, rank):
-    return [place for place in range(len(ranks)) if ranks[place] == rank]
-
-
-def _near(plan, procedure):
-    """The different procedures that a procedure calls, or by which its calls answer."""
-    names = [name for move in procedure.moves for name in names_in(move)]
-    return [plan.places[name] for name in sorted(set(names))]
+def _reach(plan, place):
+    """The places of the procedures to which one can come by calls and answers, itself too."""
+    found = [place]
+    seen = {place: True}
+    at = 0
+    while at < len(found):
+        for move in plan.bodies[found[at]].moves:
+            for name in names_in(move):
+                other = plan.places[name]
+                if other not in seen:
+                    seen[other] = True
+                    found.append(other)
+        at += 1
+    return found

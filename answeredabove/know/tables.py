@@ -8,9 +8,7 @@ from answeredabove.errors import InvalidOperation, InvalidTable
 def is_table(program, value):
     """Whether the value is a table of the program."""
     check_program(program)
-    if not is_tuple(value, _many_entries(program)):
-        return False
-    return all([_is_entry(each, program.modes) for each in value])
+    return mask_of_table(program, value) is not None
 
 
 def empty_table(program):
@@ -56,25 +54,58 @@ def joined(program, one, other):
     return tuple([tuple(sorted(set(left + right))) for left, right in zip(one, other)])
 
 
+def mask_of_table(program, value):
+    """The mask of a table of the program, or None if the value is none."""
+    modes = program.modes
+    if not isinstance(value, tuple) or len(value) != len(program.signals) * modes:
+        return None
+    mask = 0
+    shift = 0
+    for each in value:
+        if each != ():
+            part = mask_of_modes(each, modes)
+            if part is None:
+                return None
+            mask |= part << shift
+        shift += modes
+    return mask
+
+
+def mask_of_modes(value, modes):
+    """The mask of an ascending tuple of some of so many modes, perhaps (), or None if the value is none."""
+    if not isinstance(value, tuple):
+        return None
+    mask = 0
+    last = -1
+    for mode in value:
+        if not isinstance(mode, int) or isinstance(mode, bool) or not last < mode < modes:
+            return None
+        mask |= 1 << mode
+        last = mode
+    return mask
+
+
 def check_table(program, table):
-    """Refuses what is no table of the program."""
-    if not is_table(program, table):
+    """Refuses what is no table of the program; the mask of the table."""
+    mask = mask_of_table(program, table)
+    if mask is None:
         raise InvalidTable("this is no table of the program")
+    return mask
 
 
 def check_context(program, name, mode, table):
-    """Refuses what makes no context of a program."""
+    """Refuses what makes no context of a program; the mask of the table."""
     check_program(program)
     check_name(program, name)
     check_mode(program, mode)
-    check_table(program, table)
+    return check_table(program, table)
 
 
-def is_context(program, value):
-    """Whether the value is a context of the program."""
-    if not is_tuple(value, 3) or value[0] not in program:
-        return False
-    return is_below(value[1], program.modes) and is_table(program, value[2])
+def mask_of_context(program, value):
+    """The mask of the table of a context of the program, or None if the value is none."""
+    if not is_tuple(value, 3) or value[0] not in program or not is_below(value[1], program.modes):
+        return None
+    return mask_of_table(program, value[2])
 
 
 def is_escape(program, value):

@@ -5,9 +5,8 @@ from answeredabove.base.programs import Procedure, Program
 from answeredabove.base.words import is_below, is_tuple
 from answeredabove.errors import InvalidOperation, InvalidProgram, TooMany
 from answeredabove.know.does import does
-from answeredabove.know.masks import table_of
-from answeredabove.know.meetings import Meeting
-from answeredabove.know.solvers import Solver
+from answeredabove.know.crowds import told_under_all
+from answeredabove.know.plans import plan_of
 from answeredabove.know.tables import check_context, entry, is_table
 
 MOST_ALIKE = 4096
@@ -37,15 +36,15 @@ def are_alike(one, other, name):
 def parting(one, other, name):
     """A pair of a mode and a table with which the procedure's leaves or escapes differ, or None."""
     _check_both(one, other, name)
-    bits = len(one.signals) * one.modes * one.modes
-    if 1 << bits > MOST_ALIKE:
+    plan = plan_of(one)
+    if plan.everything >= MOST_ALIKE:
         raise TooMany(MOST_ALIKE)
-    told = _all_told(one, name, bits)
-    others_told = _all_told(other, name, bits)
-    differing = [at for at, pair in enumerate(told) if pair != others_told[at]]
-    if len(differing) == 0:
-        return None
-    return differing[0] % one.modes, table_of(one, differing[0] // one.modes)
+    told = told_under_all(plan, name)
+    others_told = told_under_all(plan_of(other), name)
+    for (mode, mask), masks in told.items():
+        if masks != others_told[(mode, mask)]:
+            return mode, plan.table_of(mask)
+    return None
 
 
 def is_parting(one, other, name, value):
@@ -63,18 +62,6 @@ def _check_both(one, other, name):
     check_name(other, name)
     if one.modes != other.modes or one.signals != other.signals:
         raise InvalidOperation("the programs have other modes or signals")
-
-
-def _all_told(program, name, bits):
-    """The masks of the leaves and escapes of the procedure under every table, from each mode."""
-    solver = Solver(program)
-    found = []
-    for mask in range(1 << bits):
-        for mode in range(program.modes):
-            context = (solver.plan.places[name], mode, mask)
-            walk = Meeting(solver, [context]).walks[context]
-            found.append((walk.left, walk.escaped))
-    return found
 
 
 def _answering(program, table, signal, called):
