@@ -8,6 +8,7 @@ from pathlib import Path
 TOP = Path(__file__).resolve().parent.parent
 PACKAGE = TOP / "answeredabove"
 LIBRARY = ("heapq", "math", "itertools", "collections")
+CHANGING = ("append", "clear", "extend", "insert", "pop", "remove", "reverse", "setdefault", "update")
 BARRED = ("register", "mro", "elements", "open", "input", "law", "version_info", "with_traceback", "add_note")
 
 
@@ -30,6 +31,37 @@ def bound(function):
     """The names that a function binds: its parameters and its variables."""
     found = {node.arg for node in nodes(function.args, ast.arg)}
     return found | {node.id for node in nodes(function, ast.Name) if isinstance(node.ctx, ast.Store)}
+
+
+def held(node):
+    """The node from which items are taken, as text."""
+    while isinstance(node, ast.Subscript):
+        node = node.value
+    return ast.unparse(node)
+
+
+def gone_over(node):
+    """What a loop goes over, as texts: names, attributes and items, also by enumerate, zip and the views of a dict."""
+    if isinstance(node, (ast.Name, ast.Attribute, ast.Subscript)):
+        return [ast.unparse(node), held(node)]
+    if isinstance(node, ast.Call) and getattr(node.func, "id", None) in ("enumerate", "zip"):
+        return [text for part in node.args for text in gone_over(part)]
+    if isinstance(node, ast.Call) and getattr(node.func, "attr", None) in ("items", "keys", "values"):
+        return gone_over(node.func.value)
+    return []
+
+
+def changed_in(loop):
+    """What the rows of a loop change, as texts."""
+    found = []
+    for row in loop.body:
+        for node in nodes(row, ast.Subscript):
+            if not isinstance(node.ctx, ast.Load):
+                found += [ast.unparse(node), held(node)]
+        for node in nodes(row, ast.Call):
+            if getattr(node.func, "attr", None) in CHANGING:
+                found += [ast.unparse(node.func.value), held(node.func.value)]
+    return found
 
 
 class TestLanguage(unittest.TestCase):
@@ -120,6 +152,29 @@ class TestLanguage(unittest.TestCase):
             attributes |= {node.attr for node in nodes(tree, ast.Attribute) if isinstance(node.ctx, ast.Store)}
         self.assertEqual(properties & methods, set())
         self.assertEqual((properties | methods) & attributes, set())
+
+    def test_loops_do_not_change_what_they_go_over(self):
+        for path, tree in trees():
+            for loop in nodes(tree, ast.For):
+                self.assertEqual(set(gone_over(loop.iter)) & set(changed_in(loop)), set(), (path, loop.lineno))
+
+    def test_attributes_are_assigned_through_names(self):
+        for path, tree in trees():
+            top = {node.id for row in tree.body for node in nodes(row, ast.Name) if isinstance(row, ast.Assign)}
+            for node in nodes(tree, ast.Attribute):
+                if not isinstance(node.ctx, ast.Load):
+                    self.assertIsInstance(node.value, ast.Name, (path, node.lineno))
+                    self.assertNotIn(node.value.id, top, (path, node.lineno))
+
+    def test_each_attribute_that_is_read_is_there(self):
+        known = set(CHANGING) | {"items", "values", "keys", "get", "index", "count", "join", "split", "partition"}
+        known |= {"startswith", "bit_length"}
+        for _, tree in trees():
+            known |= {node.attr for node in nodes(tree, ast.Attribute) if not isinstance(node.ctx, ast.Load)}
+            known |= {part.name for made in nodes(tree, ast.ClassDef) for part in nodes(made, ast.FunctionDef)}
+        for path, tree in trees():
+            for node in nodes(tree, ast.Attribute):
+                self.assertIn(node.attr, known, (path, node.lineno))
 
     def test_no_reversed_and_no_words_of_frames(self):
         for path, tree in trees():

@@ -48,7 +48,7 @@ class TestWary(Checks):
     """A solver that is wary from the beginning, or soon, finds the same."""
 
     def test_the_same_is_known(self):
-        samples = [NEED, PASS, NEST, MIXED, *programs(71, 50), *programs(72, 20, 6, 4, 3, 3, 10), *lively(73, 30)]
+        samples = [NEED, PASS, NEST, MIXED, *programs(71, 50), *programs(85, 20, 6, 4, 3, 3, 10), *lively(73, 30)]
         for at, program in enumerate(samples):
             for context in contexts(program, at)[::7]:
                 oracle = Oracle(program, [context])

@@ -133,7 +133,7 @@ def _is_pair(program, escapes, value):
 
 def _is_counted(plan, told, numbers, context):
     """Whether all contexts that a context needs have numbers, and the rules for this context hold."""
-    rules = rules_within(plan.width, told, context, Walk(plan, told, False, context[0], context[1]).made)
+    rules = rules_within(plan.width, told, context, Walk(plan, told, context[0], context[1]).made)
     if not all([(each, MOST) in numbers for each in contexts_in(rules)]):
         return False
     for head, first, second, _ in rules:

@@ -86,7 +86,7 @@ def _masks_of_pair(plan, value):
 
 def _is_closed(plan, told, spot, mask):
     """Whether all that is met in one step is told of, and all that follows for the context is told."""
-    walk = Walk(plan, told, False, spot, mask)
+    walk = Walk(plan, told, spot, mask)
     if walk.lacks or not all([(call.base + mode, inner) in told for call, mode, inner in walk.made]):
         return False
     left, escaped = told[(spot, mask)]

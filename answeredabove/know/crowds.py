@@ -30,7 +30,7 @@ def _check_each(plan, meeting):
     """Refuses too many tables of one of the contexts of a meeting, where all of them together are too many."""
     needs = {context: [] for context in meeting.callers}
     tables = {}
-    for spot, mask in needs:
+    for spot, mask in meeting.callers:
         tables[(spot, mask)] = 1 << mask
         for call, mode, inner in meeting.calls_in(spot, mask):
             tables[(spot, mask)] |= 1 << inner

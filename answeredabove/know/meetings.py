@@ -82,7 +82,8 @@ def _kept_solver(program):
 
 def _keep(program, solver):
     fits = solver.size() <= MOST_CELLS and (solver.wary or solver.is_done())
-    notes_of(program).solver = solver if fits else None
+    notes = notes_of(program)
+    notes.solver = solver if fits else None
 
 
 class Meeting:
@@ -166,7 +167,10 @@ class Meeting:
         at = 0
         while at < len(self.callers):
             spot, mask = self.callers[at]
-            self._follow(self._known(spot, mask), mask)
+            cell = self._solver.cell(spot, mask)
+            if cell.waiting:
+                self._learn_on()
+            self._follow(cell, mask)
             at += 1
 
     def _follow(self, cell, mask):
@@ -187,22 +191,23 @@ class Meeting:
         if spots & ~self.tables[mask] > 0:
             self._find(mask, spots)
 
-    def _known(self, spot, mask):
-        """What is known of a context; all of it, unless that takes too long."""
-        cell = self._solver.cell(spot, mask)
-        if cell.waiting and self._eager:
+    def _learn_on(self):
+        """Learns all that is not known yet, unless that takes too long."""
+        if self._eager:
             self._eager = self._solver.run_long()
-        return cell
 
     def _added(self, call, mask, key):
         """What the answers of a call add to its inner table, or None if something on which this rests is not sure."""
         added = 0
         whole = True
+        width = self._plan.width
         for by, _, shift, resumes, _ in call.replies:
-            for spot in range(by, by + self._plan.width):
-                cell = self._known(spot, mask)
+            for spot in range(by, by + width):
+                cell = self._solver.cell(spot, mask)
+                if cell.waiting:
+                    self._learn_on()
                 added |= (cell.left & resumes) << shift
-                shift += self._plan.width
+                shift += width
                 if not self._eager and not self._solver.is_settled(cell):
                     self._lacking[cell.number] = cell
                     whole = False

@@ -1,10 +1,10 @@
 """Plans: what all procedures of a program do, told by masks, made once for all questions about the program."""
 
-from answeredabove.base.moves import names_in
 from answeredabove.base.programs import notes_of
 from answeredabove.know.ceilings import tops_of
 from answeredabove.know.masks import MODE_SETS, bits_of
 from answeredabove.know.sheets import Sheet
+from answeredabove.know.walks import NOTHING
 
 
 MOST_KEPT = 5000
@@ -19,8 +19,8 @@ class Plan:
     itself too: so one has a lower rank than another one that needs it and that it does not need.
 
     `scopes` tells for each spot the part of a table that matters there: the entries of the signals and modes that could
-    escape. What is true under a table is true under this part of it alone. `tops` has the ceilings of spots under the
-    full table, by pairs (spot, mask).
+    escape. What is true under a table is true under this part of it alone. `tops` has for each spot its ceiling under
+    the full table.
     """
 
     def __init__(self, program):
@@ -37,7 +37,7 @@ class Plan:
         self.calling = 0
         self.first = [None] * (len(self.order) * self.width)
         self.scopes = [0] * (len(self.order) * self.width)
-        self.tops = {}
+        self.tops = [NOTHING] * (len(self.order) * self.width)
         self._tables = {}
         self._escapes = {}
 
@@ -86,30 +86,52 @@ class Plan:
 
     def _prepare(self, place):
         """Makes the sheets of a procedure and of all that it can come to, and what rests on them."""
-        reach = _reach(self, place)
-        new = [each for each in reach if self.sheets[each] is None]
+        new = self._make_sheets(place)
         for each in new:
-            self.sheets[each] = Sheet(self, each)
-            if len(self.sheets[each].calls_made) > 0:
-                self.calling |= self.full << (each * self.width)
-            for mode in range(self.width):
-                self.first[each * self.width + mode] = (self.sheets[each], self.sheets[each].spread[0][1 << mode])
-        for each in new:
-            self.ranks[each] = len(reach) if each == place else len(_reach(self, each))
+            self.ranks[each] = self._rank(each)
         for rank in sorted(set([self.ranks[each] for each in new])):
             places = [each for each in new if self.ranks[each] == rank]
-            spots = [each * self.width + mode for each in places for mode in range(self.width)]
-            self.tops = tops_of(self, spots, self.tops)
+            self.tops = tops_of(self, [each * self.width + mode for each in places for mode in range(self.width)])
         entries = {}
         for each in new:
             for spot in range(each * self.width, (each + 1) * self.width):
-                escapes = self.tops[(spot, self.everything)][1]
+                escapes = self.tops[spot][1]
                 if escapes not in entries:
                     entries[escapes] = self._entries(escapes)
                 self.scopes[spot] = entries[escapes]
         for each in new:
             for call in self.sheets[each].calls_made.values():
                 self._complete(call)
+
+    def _make_sheets(self, place):
+        """Makes the sheets of a procedure and of all that it can come to; the places of those that are new."""
+        new = []
+        waiting = [place]
+        while len(waiting) > 0:
+            each = waiting.pop()
+            if self.sheets[each] is None:
+                sheet = Sheet(self, each)
+                self.sheets[each] = sheet
+                new.append(each)
+                waiting.extend(bits_of(sheet.needs))
+                if len(sheet.calls_made) > 0:
+                    self.calling |= self.full << (each * self.width)
+                for mode in range(self.width):
+                    self.first[each * self.width + mode] = (sheet, sheet.spread[0][1 << mode])
+        return new
+
+    def _rank(self, place):
+        """How many procedures a procedure can come to by calls and answers, itself too."""
+        found = 1 << place
+        waiting = found
+        many = 0
+        while waiting > 0:
+            bit = waiting & -waiting
+            new = self.sheets[bit.bit_length() - 1].needs & ~found
+            found |= new
+            waiting = (waiting ^ bit) | new
+            many += 1
+        return many
 
     def _entries(self, escapes):
         """The mask of the entries of a table that belong to the escapes of a mask, each entry with all modes."""
@@ -122,7 +144,7 @@ class Plan:
         """Adds to a call what rests on scopes; what cannot escape from it is not asked for."""
         could = 0
         for mode in call.made_in:
-            could |= self.tops[(call.base + mode, self.everything)][1]
+            could |= self.tops[call.base + mode][1]
         for by, first, shift, resumes, led in call.replies:
             for mode in range(self.width):
                 call.around |= self.scopes[by + mode]
@@ -137,19 +159,3 @@ def plan_of(program):
     if notes.plan is None:
         notes.plan = Plan(program)
     return notes.plan
-
-
-def _reach(plan, place):
-    """The places of the procedures to which one can come by calls and answers, itself too."""
-    found = [place]
-    seen = {place: True}
-    at = 0
-    while at < len(found):
-        for move in plan.bodies[found[at]].moves:
-            for name in names_in(move):
-                other = plan.places[name]
-                if other not in seen:
-                    seen[other] = True
-                    found.append(other)
-        at += 1
-    return found

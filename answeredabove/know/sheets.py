@@ -14,7 +14,8 @@ class Sheet:
     `spread` has for each point and each mask of modes the states that are come to from there by goes alone. `active`
     are the states in which something can be raised or called; for the bit of each of them `acts` has what can be
     raised, as triples (bit of the escape, shift of the table's entry, spread of the point behind the raise), and what
-    can be called, as pairs (call, mode). `calls_made` has all calls by the indexes of their moves.
+    can be called, as pairs (call, mode). `calls_made` has all calls by the indexes of their moves, and `needs` the bits
+    of the places of the procedures that are called or answer.
     """
 
     def __init__(self, plan, place):
@@ -22,6 +23,7 @@ class Sheet:
         width = plan.width
         self.spread = _spread(procedure, width)
         self.calls_made = {}
+        self.needs = 0
         self.active = 0
         self.acts = {}
         self._leaves = []
@@ -36,6 +38,7 @@ class Sheet:
             elif move[0] == "call":
                 call = Call(plan, place, index, self.spread)
                 self.calls_made[index] = call
+                self.needs |= call.needs
                 for mode in move[4]:
                     self._acts_at(move[1] * width + mode)[1].append((call, mode))
 
@@ -61,7 +64,8 @@ class Call:
     point behind the call. `passed` is the mask of the escapes that are not answered, `kept` that of the part of the
     table that stays. Each of `replies` is a tuple (first spot of the answer's procedure, first escape, shift of its
     entry, mask of the modes in which it resumes, pairs of the bit of a mode in which it unwinds and the states to which
-    this leads); `spots` has the bits of all spots of these procedures.
+    this leads); `spots` has the bits of all spots of these procedures. `needs` has the bits of their places, and of the
+    place of what is called.
 
     As soon as the scopes of these are known, `asks` has what is asked of them: the spot, the bit of the escape that is
     answered, the shift of its entry, and the rest as in `replies`; `around` is the part of the table on which the
@@ -87,8 +91,10 @@ class Call:
                 self.kept |= plan.block << (at * width * width)
         self.replies = [_reply(plan, answer, spread) for answer in move[5]]
         self.spots = 0
+        self.needs = 1 << plan.places[move[3]]
         for reply in self.replies:
             self.spots |= plan.full << reply[0]
+            self.needs |= 1 << (reply[0] // width)
 
     def answering(self, at, width):
         """The spot of the procedure that answers the escape with this bit, or None if it is not answered."""
@@ -122,11 +128,12 @@ def _spread(procedure, width):
                 state = move[1] * width + old
                 led[state] = led.get(state, 1 << state) | 1 << (move[2] * width + new)
     # What a state comes to by way of each other one is added for one after another.
-    for middle in led:
-        for state in led:
+    states = list(led)
+    for middle in states:
+        for state in states:
             if (led[state] >> middle) & 1 == 1:
                 led[state] |= led[middle]
-    sources = {state // width: True for state in led}
+    sources = {state // width: True for state in states}
     return [
         _spread_of(led, point * width, width) if point in sources
         else [modes << (point * width) for modes in range(1 << width)]

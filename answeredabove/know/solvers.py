@@ -168,8 +168,22 @@ class Solver:
             link = cell.dirty.pop()
             link.dirty = False
             if link.asked is None:
-                link.asked = [self._needed(cell, link, ask[0], cell.mask) for ask in link.call.asks]
+                link.asked = self._asked(cell, link)
             self._follow(cell, link)
+
+    def _asked(self, cell, link):
+        """The cells of the procedures that answer."""
+        found = []
+        for ask in link.call.asks:
+            spot = ask[0]
+            mask = cell.mask & self._scopes[spot]
+            cells = self._cells[spot]
+            other = cells[mask] if mask in cells else self._made(spot, mask)
+            if not other.sure:
+                other.users.append(link)
+            found.append(other)
+        cell.needs.extend(found)
+        return found
 
     def _follow(self, cell, link):
         call = link.call
@@ -210,7 +224,9 @@ class Solver:
         return more
 
     def _needed(self, cell, link, spot, mask):
-        other = self.cell(spot, mask)
+        mask &= self._scopes[spot]
+        cells = self._cells[spot]
+        other = cells[mask] if mask in cells else self._made(spot, mask)
         cell.needs.append(other)
         if not other.sure:
             other.users.append(link)

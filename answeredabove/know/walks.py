@@ -7,15 +7,14 @@ class Walk:
     """The least sets that follow for one context: the states that are come to, the modes that are left, the escapes.
 
     `told` has the masks of the leaves and of the escapes of other contexts by pairs (spot, mask of the table). A call
-    is followed only where it has those on which the inner table rests, or, if `whole` is true, under the full table.
+    is followed only where it has those on which the inner table rests.
     `made` has the calls that are followed, as triples (call, mode, mask of the inner table), and `lacks` is true if one
     is not.
     """
 
-    def __init__(self, plan, told, whole, spot, table):
+    def __init__(self, plan, told, spot, table):
         self._plan = plan
         self._told = told
-        self._whole = whole
         self._table = table
         self._inners = {}
         self._sheet, self.come = plan.first[spot]
@@ -66,8 +65,6 @@ class Walk:
 
     def _inner(self, call):
         """The mask of the inner table, or None if something on which it rests is not told."""
-        if self._whole:
-            return self._plan.everything
         inner = self._table & call.kept
         for by, _, shift, resumes, _ in call.replies:
             for mode in range(self._plan.width):
