@@ -28,16 +28,18 @@ def reached(program, name, mode, table):
 def inner_table(program, table, site):
     """The inner table of the call at a site under a table."""
     check_program(program)
-    given = check_table(program, table)
-    mask = given
+    mask = check_table(program, table)
     if not is_call(program, site):
         raise UnknownSite(site)
     plan = plan_of(program)
-    for signal, by, unwinds in program.move(site)[5]:
+    inner = mask
+    for signal, by, unwinds in program[site[0]].moves[site[1]][5]:
         resumes = plan.full & ~mask_of([mode for mode, _ in unwinds])
-        for mode in range(program.modes):
-            shift = plan.place_of(signal, mode) * program.modes
+        first = plan.spot_of(by, 0)
+        shift = plan.place_of(signal, 0) * plan.width
+        for spot in range(first, first + plan.width):
             # Each context has a limit of its own, so each is asked alone.
-            left = cells_at(program, [(plan.spot_of(by, mode), given)])[0].left
-            mask = mask & ~(plan.full << shift) | ((left & resumes) << shift)
-    return plan.table_of(mask)
+            left = cells_at(program, [(spot, mask)])[0].left
+            inner = inner & ~(plan.full << shift) | ((left & resumes) << shift)
+            shift += plan.width
+    return plan.table_of(inner)

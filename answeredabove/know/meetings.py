@@ -60,11 +60,19 @@ def cells_of(solver, roots, fit):
     """What is true of contexts, as a solver finds it; `fit` tells whether it is known that there are not too many
     tables."""
     cells = [solver.cell(spot, mask) for spot, mask in roots]
-    fit = fit or solver.plan.everything < MOST_TABLES
+    fit = fit or solver.plan.everything < MOST_TABLES or _meet_themselves(solver.plan, roots)
     if solver.wary or not solver.run(SHORT) or not fit:
         meeting = Meeting(solver, roots, MOST_TABLES)
         cells = [meeting.cell(spot, mask) for spot, mask in roots]
     return cells
+
+
+def _meet_themselves(plan, roots):
+    """Whether contexts meet nothing but themselves, as there are no calls."""
+    for spot, _ in roots:
+        if (plan.calling >> spot) & 1 == 1:
+            return False
+    return True
 
 
 def own_roots(program):
