@@ -4,64 +4,24 @@ Under a ceiling what is called runs under the full table; so what a call does th
 answers in it, which runs under the table of the context.
 """
 
-from answeredabove.know.walks import NOTHING
+from answeredabove.know.walks import NOTHING, walked
 
 
 def tops_of(plan, spots):
-    """The ceilings of all spots under the full table as the plan has them, with those of some more spots, which rest on
-    one another and on what the plan has."""
-    found = list(plan.tops)
+    """The ceilings of spots under the full table, by pairs (spot, mask), with those that the plan has, on which they
+    rest beside one another."""
+    found = {key: plan.tops[key] for key in plan.tops}
     callers = [spot for spot in spots if (plan.calling >> spot) & 1 == 1]
     waiting = spots
     while len(waiting) > 0:
         changed = False
         for spot in waiting:
-            masks = _top(plan, found, spot)
-            changed = changed or found[spot] != masks
-            found[spot] = masks
+            left, escaped, _ = walked(plan, found, True, spot, plan.everything)
+            changed = changed or found.get((spot, plan.everything), NOTHING) != (left, escaped)
+            found[(spot, plan.everything)] = (left, escaped)
         # What calls nothing rests on nothing.
         waiting = callers if changed else []
     return found
-
-
-def _top(plan, told, spot):
-    """The masks that follow for a spot under the full table, where those of other spots are told."""
-    sheet, come = plan.first[spot]
-    escaped = 0
-    todo = come & sheet.active
-    while todo > 0:
-        bit = todo & -todo
-        raised, calls = sheet.acts[bit]
-        more = 0
-        for escape, _, there in raised:
-            escaped |= escape
-            more |= there[plan.full]
-        for call, mode in calls:
-            left, others = told[call.base + mode]
-            more |= call.there[left]
-            escaped |= others & call.passed
-            for by, states in _answering(plan, call, others):
-                left, others = told[by]
-                escaped |= others
-                for mode_left, led in states:
-                    if left & mode_left > 0:
-                        more |= led
-        more &= ~come
-        come |= more
-        todo = (todo ^ bit) | (more & sheet.active)
-    return sheet.left_from(come), escaped
-
-
-def _answering(plan, call, escaped):
-    """The spots of the procedures that answer escapes of a call, with the states to which they unwind."""
-    if escaped & ~call.passed == 0:
-        return []
-    return [
-        (by + mode, led)
-        for by, first, _, _, led in call.replies
-        for mode in range(plan.width)
-        if (escaped >> (first + mode)) & 1 == 1
-    ]
 
 
 class Ceilings:
@@ -142,7 +102,7 @@ class Ceilings:
         escapes = 0
         answering = []
         for call, mode in calls:
-            left, escaped = self._plan.tops[call.base + mode]
+            left, escaped = self._plan.tops[(call.base + mode, self._plan.everything)]
             come |= call.there[left]
             escapes |= escaped & call.passed
             for spot, bit, _, _, led in call.asks:

@@ -22,13 +22,3 @@ def mask_of(modes):
 def bits_of(mask):
     """The bits of a mask, ascending."""
     return [at for at in range(mask.bit_length()) if (mask >> at) & 1 == 1]
-
-
-def table_mask(table, width):
-    """The mask of a table, where there are so many modes."""
-    mask = 0
-    shift = 0
-    for modes in table:
-        mask |= mask_of(modes) << shift
-        shift += width
-    return mask

@@ -4,7 +4,6 @@ from answeredabove.base.programs import notes_of
 from answeredabove.know.ceilings import tops_of
 from answeredabove.know.masks import MODE_SETS, bits_of
 from answeredabove.know.sheets import Sheet
-from answeredabove.know.walks import NOTHING
 
 
 MOST_KEPT = 5000
@@ -19,8 +18,8 @@ class Plan:
     itself too: so one has a lower rank than another one that needs it and that it does not need.
 
     `scopes` tells for each spot the part of a table that matters there: the entries of the signals and modes that could
-    escape. What is true under a table is true under this part of it alone. `tops` has for each spot its ceiling under
-    the full table.
+    escape. What is true under a table is true under this part of it alone. `tops` has the ceilings of spots under the
+    full table, by pairs (spot, mask).
     """
 
     def __init__(self, program):
@@ -37,7 +36,7 @@ class Plan:
         self.calling = 0
         self.first = [None] * (len(self.order) * self.width)
         self.scopes = [0] * (len(self.order) * self.width)
-        self.tops = [NOTHING] * (len(self.order) * self.width)
+        self.tops = {}
         self._tables = {}
         self._escapes = {}
 
@@ -47,10 +46,6 @@ class Plan:
         if self.sheets[place] is None:
             self._prepare(place)
         return place * self.width + mode
-
-    def call_at(self, site):
-        """The call at a site of a procedure of which a spot was asked for."""
-        return self.sheets[self.places[site[0]]].calls_made[site[1]]
 
     def name_at(self, spot):
         """The name of the procedure of a spot."""
@@ -95,7 +90,7 @@ class Plan:
         entries = {}
         for each in new:
             for spot in range(each * self.width, (each + 1) * self.width):
-                escapes = self.tops[spot][1]
+                escapes = self.tops[(spot, self.everything)][1]
                 if escapes not in entries:
                     entries[escapes] = self._entries(escapes)
                 self.scopes[spot] = entries[escapes]
@@ -144,7 +139,7 @@ class Plan:
         """Adds to a call what rests on scopes; what cannot escape from it is not asked for."""
         could = 0
         for mode in call.made_in:
-            could |= self.tops[call.base + mode][1]
+            could |= self.tops[(call.base + mode, self.everything)][1]
         for by, first, shift, resumes, led in call.replies:
             for mode in range(self.width):
                 call.around |= self.scopes[by + mode]
