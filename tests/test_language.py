@@ -5,6 +5,8 @@ import builtins
 import unittest
 from pathlib import Path
 
+from tests.reach import Reach, barred
+
 TOP = Path(__file__).resolve().parent.parent
 PACKAGE = TOP / "answeredabove"
 LIBRARY = ("heapq", "math", "itertools", "collections")
@@ -181,6 +183,38 @@ class TestLanguage(unittest.TestCase):
             for node in nodes(tree, ast.Call):
                 self.assertNotIn(getattr(node.func, "id", None), ("reversed", "map", "iter", "next", "chr", "print"), path)
             self.assertEqual(nodes(tree, ast.Global, ast.AsyncFunctionDef, ast.Yield, ast.Div), [], path)
+
+    def test_operators_and_properties_assign_as_they_may(self):
+        reached = Reach(trees()).all()
+        for at in (("run.runs", "Run.__add__"), ("run.runs", "_options_under"), ("know.tables", "mask_of_table"),
+                   ("know.tables", "mask_of_modes"), ("base.programs", "_sites"), ("text.shell", "Shell.names")):
+            self.assertIn(("answeredabove." + at[0], at[1]), reached)
+        for at, function in reached.items():
+            self.assertEqual(barred(function), [], at)
+
+    def test_operators_and_properties_change_nothing(self):
+        for at, function in Reach(trees()).all().items():
+            made = {
+                name.id for node in nodes(function, ast.Assign) for name in node.targets if isinstance(name, ast.Name)
+                if isinstance(node.value, (ast.Call, ast.List, ast.Dict, ast.ListComp, ast.DictComp))
+            }
+            made |= {"self"} if at[1].endswith(".__init__") else set()
+            changed = [node.value for node in nodes(function, ast.Attribute, ast.Subscript)
+                       if not isinstance(node.ctx, ast.Load)]
+            changed += [node.func.value for node in nodes(function, ast.Call)
+                        if getattr(node.func, "attr", None) in CHANGING]
+            for value in changed:
+                self.assertIn(getattr(value, "id", None), made, (at, ast.unparse(value)))
+
+    def test_what_is_barred(self):
+        for rows, many in (
+            ("mask = 0; mask |= 1", 1), ("mask = 0; mask <<= 1", 1), ("many = 0; many += 1", 0), ("x = f(); x += 1", 0),
+            ("shift = 0; shift += modes", 0), ("x = f(); x += y", 1), ("found = []; found += y", 0), ("a.b += 1", 1),
+            ("x[0] += 1", 1), ("at -= 1; at //= 2", 0), ("p += 1", 1), ("x = 0; x ^= 1; x &= 2", 2), ("x = 1; x *= y", 0),
+            ("x = f(); x *= y", 1), ("for x in y: x += z", 1),
+        ):
+            function = ast.parse("def f(p):\n    " + rows).body[0]
+            self.assertEqual(len(barred(function)), many, rows)
 
 
 if __name__ == "__main__":

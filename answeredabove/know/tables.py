@@ -66,7 +66,8 @@ def mask_of_table(program, value):
             part = mask_of_modes(each, modes)
             if part is None:
                 return None
-            mask |= part << shift
+            # No `|=` here, as an operator comes to this.
+            mask = mask | (part << shift)
         shift += modes
     return mask
 
@@ -80,7 +81,7 @@ def mask_of_modes(value, modes):
     for mode in value:
         if not isinstance(mode, int) or isinstance(mode, bool) or not last < mode < modes:
             return None
-        mask |= 1 << mode
+        mask = mask | (1 << mode)
         last = mode
     return mask
 
