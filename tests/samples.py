@@ -94,3 +94,49 @@ def _lively(draw, name, names, modes, signals):
         move = _move(draw, draw.choice(kinds), names, modes, signals, points)
         moves.append((move[0], min(move[1], draw.randrange(points))) + move[2:])
     return Procedure(name, points, *moves, ("leave", draw.randrange(points), _modes(draw, modes)))
+
+
+LAYERS = (("main",), ("aa", "bb"), ("cc", "dd"), ("ee", "ff", "gg"), ("hh",))
+
+
+def layered(seed, many, modes=3, signals=2):
+    """So many programs in which most raises are answered, by procedures that call others: main calls, those that it
+    calls call those that raise, and what answers goes from mode to mode, or calls something that does."""
+    draw = random.Random(seed)
+    found = []
+    for _ in range(many):
+        own = draw.randint(1, modes)
+        told = SIGNALS[:draw.randint(1, signals)]
+        made = [_layer(draw, name, at, own, told) for at, layer in enumerate(LAYERS) for name in layer]
+        found.append(Program(own, _modes(draw, own), told, *made))
+    return found
+
+
+def _layer(draw, name, layer, modes, signals):
+    points = draw.randint(2, 3)
+    full = tuple(range(modes))
+    moves = []
+    for here in range(points - 1):
+        for _ in range(draw.choice((1, 1, 2, 3)) if layer < 2 else draw.choice((1, 1, 2))):
+            there = here + 1 if draw.random() < 0.9 else draw.randrange(points)
+            kind = draw.choice(("call call call raise", "call call raise", "raise raise go", "go call call raise",
+                                "go go raise")[layer].split())
+            if kind == "go":
+                pairs = {(mode, draw.randrange(modes)) for mode in full}
+                moves.append(("go", here, there, tuple(sorted(pairs))))
+            elif kind == "raise":
+                moves.append(("raise", here, there, draw.choice(signals), full if draw.random() < 0.8 else full[-1:]))
+            else:
+                goal = draw.choice(LAYERS[draw.choice((layer + 1, layer + 1, 2)) if layer < 3 else draw.choice((2, 4))])
+                goal = goal if draw.random() < 0.9 else draw.choice(NAMES)
+                moves.append(("call", here, there, goal, full, _answers(draw, signals, modes, points)))
+    return Procedure(name, points, *moves, ("leave", points - 1, full if draw.random() < 0.7 else _modes(draw, modes)))
+
+
+def _answers(draw, signals, modes, points):
+    found = []
+    for signal in signals:
+        if draw.random() < 0.75:
+            unwinds = tuple((mode, draw.randrange(points)) for mode in _some(draw, modes, 0.15))
+            found.append((signal, draw.choice(LAYERS[3]), unwinds))
+    return tuple(found)

@@ -109,6 +109,11 @@ class TestSpare(Checks):
         self.assertIs(is_spare(alone, ()), True)
         self.assertEqual(self.refuse(TooMany, is_spare, alone, CALMING[:1]).limit, 200)
         self.assertEqual(self.refuse(TooMany, spare_answers, alone).limit, 200)
+        # The others do not make it too many.
+        for answer in alone.answers:
+            if answer != CALMING[0]:
+                same = outcome(alone.without_answers((answer,))) == outcome(alone)
+                self.assertIs(is_spare(alone, (answer,)), same)
 
     def test_errors_in_their_order(self):
         for value in NO_PROGRAMS:
@@ -148,6 +153,12 @@ class TestLeastSets(Checks):
                     several += len(found) > 1
                 self.assertEqual(least_sets(program, chosen), least_sets(program, chosen, aim="answered"))
         self.assertGreater(several, 1)
+
+    def test_ascending(self):
+        renamed = TWO.renamed({"mid": "aa"})
+        self.assertEqual(renamed.answers, (MAIN, ("aa", 0, "ask")))
+        for aim in ("answered", "same"):
+            self.assertEqual(least_sets(renamed, renamed.answers, aim=aim), ((("aa", 0, "ask"),), (MAIN,)))
 
     def test_six_and_seven(self):
         first, last, mid = SIX.answers[:5], SIX.answers[5:6], SIX.answers[6:]

@@ -11,7 +11,7 @@ from answeredabove.know.masks import bits_of
 from answeredabove.know.meetings import own_roots
 from answeredabove.know.plans import plan_of
 from answeredabove.know.tables import empty_table, is_escape, mask_of_context
-from answeredabove.know.walks import walked
+from answeredabove.know.walks import NEAR, walked
 from answeredabove.run.runs import Run
 
 MAX_DEPTH = 40
@@ -133,7 +133,7 @@ def _is_pair(program, escapes, value):
 
 def _is_counted(plan, told, numbers, context):
     """Whether all contexts that a context needs have numbers, and the rules for this context hold."""
-    _, _, made = walked(plan, told, False, context[0], context[1])
+    _, _, made = walked(plan, told, NEAR, context[0], context[1])
     rules = rules_within(plan.width, told, context, made)
     if not all([(each, MOST) in numbers for each in contexts_in(rules)]):
         return False

@@ -66,6 +66,9 @@ class Notes:
         self.plan = None
         self.solver = None
         self.apart = None
+        self.few_tables = None
+        self.beginning = None
+        self.outcomes = None
 
 
 class Program:
@@ -203,11 +206,7 @@ class Program:
 
     def without_answers(self, answers):
         """The program without the answers of a tuple."""
-        if not isinstance(answers, tuple):
-            raise UnknownSite(answers)
-        for answer in answers:
-            if not is_answer(self, answer):
-                raise UnknownSite(answer)
+        check_answers(self, answers)
         return self._with_procedures(tuple([_without_answers(each, answers) for each in self._procedures]))
 
     def renamed(self, names):
@@ -244,9 +243,19 @@ def is_call(program, value):
 
 def is_answer(program, value):
     """Whether the value tells an answer of the program, by the site of its call and its signal."""
-    if not is_tuple(value, 3) or not is_call(program, value[:2]):
+    if not is_tuple(value, 3) or value[0] not in program:
         return False
-    return value[2] in signals_answered(program.move(value[:2]))
+    moves = program[value[0]].moves
+    return is_below(value[1], len(moves)) and value[2] in signals_answered(moves[value[1]])
+
+
+def check_answers(program, answers):
+    """Refuses what is no tuple of answers of the program, and the first entry that is none."""
+    if not isinstance(answers, tuple):
+        raise UnknownSite(answers)
+    for answer in answers:
+        if not is_answer(program, answer):
+            raise UnknownSite(answer)
 
 
 def _are_procedure_parts(called, points, moves):

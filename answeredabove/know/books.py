@@ -6,7 +6,7 @@ from answeredabove.know.masks import MODE_SETS
 from answeredabove.know.meetings import meeting_at, own_roots
 from answeredabove.know.plans import plan_of
 from answeredabove.know.tables import check_context, empty_table, mask_of_context, mask_of_modes
-from answeredabove.know.walks import walked
+from answeredabove.know.walks import NEAR, walked
 
 
 def contexts_met(program, name, mode, table):
@@ -86,7 +86,7 @@ def _masks_of_pair(plan, value):
 
 def _is_closed(plan, told, spot, mask):
     """Whether all that is met in one step is told of, and all that follows for the context is told."""
-    follows = walked(plan, told, False, spot, mask)
+    follows = walked(plan, told, NEAR, spot, mask)
     if follows is None or not all([(call.base + mode, inner) in told for call, mode, inner in follows[2]]):
         return False
     left, escaped = told[(spot, mask)]

@@ -4,19 +4,37 @@ Under a ceiling what is called runs under the full table; so what a call does th
 answers in it, which runs under the table of the context.
 """
 
-from answeredabove.know.walks import NOTHING, walked
+from answeredabove.know.walks import LOOSE, NOTHING, WHOLE, walked
 
 
-def tops_of(plan, spots):
-    """The ceilings of spots under the full table, by pairs (spot, mask), with those that the plan has, on which they
-    rest beside one another."""
-    found = {key: plan.tops[key] for key in plan.tops}
-    callers = [spot for spot in spots if (plan.calling >> spot) & 1 == 1]
+def tops_of(plan, places):
+    """The ceilings of the spots of procedures under the full table, by pairs (spot, mask), with those that the plan
+    has, on which they rest beside one another."""
+    return _tops(plan, plan.tops, places, WHOLE)
+
+
+def loose_tops(plan):
+    """For each spot the escapes of its ceiling under the full table, whatever answers are left out."""
+    places = [place for place, sheet in enumerate(plan.sheets) if sheet is not None]
+    tops = _tops(plan, {}, places, LOOSE)
+    return [tops.get((spot, plan.everything), NOTHING)[1] for spot in range(len(plan.first))]
+
+
+def _tops(plan, tops, places, way):
+    for rank in sorted(set([plan.ranks[place] for place in places])):
+        beside = [place * plan.width for place in places if plan.ranks[place] == rank]
+        tops = _tops_beside(plan, tops, [first + mode for first in beside for mode in range(plan.width)], way)
+    return tops
+
+
+def _tops_beside(plan, tops, spots, way):
+    found = {key: tops[key] for key in tops}
+    callers = [spot for spot in spots if plan.has_calls(spot)]
     waiting = spots
     while len(waiting) > 0:
         changed = False
         for spot in waiting:
-            left, escaped, _ = walked(plan, found, True, spot, plan.everything)
+            left, escaped, _ = walked(plan, found, way, spot, plan.everything)
             changed = changed or found.get((spot, plan.everything), NOTHING) != (left, escaped)
             found[(spot, plan.everything)] = (left, escaped)
         # What calls nothing rests on nothing.

@@ -35,7 +35,7 @@ def _check_each(plan, meeting):
         for call, mode, inner in meeting.calls_in(spot, mask):
             tables[(spot, mask)] |= 1 << inner
             others = [(call.base + mode, inner)] + [(by, mask) for by in bits_of(call.spots)]
-            needs[(spot, mask)].extend([other for other in others if (plan.calling >> other[0]) & 1 == 1])
+            needs[(spot, mask)].extend([other for other in others if plan.has_calls(other[0])])
     for parts in components(needs):
         together = 0
         for part in parts:

@@ -44,6 +44,12 @@ def cells_apart(program, roots):
     return solver, [solver.cell(spot, mask) for spot, mask in roots]
 
 
+def cells_kept(program):
+    """How many cells of a program are known; where they were too many to be kept, a number as great as any."""
+    notes = notes_of(program)
+    return MOST_CELLS if notes.solver is None else notes.solver.size()
+
+
 def meeting_at(program, roots):
     """The contexts that some contexts meet together."""
     solver = _kept_solver(program)
@@ -70,7 +76,7 @@ def cells_of(solver, roots, fit):
 def _meet_themselves(plan, roots):
     """Whether contexts meet nothing but themselves, as there are no calls."""
     for spot, _ in roots:
-        if (plan.calling >> spot) & 1 == 1:
+        if plan.has_calls(spot):
             return False
     return True
 

@@ -27,6 +27,7 @@ class Plan:
         self.width = program.modes
         self.full = (1 << self.width) - 1
         self.block = (1 << (self.width * self.width)) - 1
+        self.passing = (1 << (len(self.words) * self.width)) - 1
         self.everything = (1 << (len(self.words) * self.width * self.width)) - 1
         self.bodies = program.procedures
         self.order = program.names
@@ -39,6 +40,7 @@ class Plan:
         self.tops = {}
         self._tables = {}
         self._escapes = {}
+        self._entries = {}
 
     def spot_of(self, name, mode):
         """The spot of a procedure and a mode."""
@@ -46,6 +48,10 @@ class Plan:
         if self.sheets[place] is None:
             self._prepare(place)
         return place * self.width + mode
+
+    def has_calls(self, spot):
+        """Whether the procedure of a spot has calls."""
+        return (self.calling >> spot) & 1 == 1
 
     def name_at(self, spot):
         """The name of the procedure of a spot."""
@@ -79,21 +85,24 @@ class Plan:
             self._escapes[mask] = tuple(found)
         return self._escapes[mask]
 
+    def entries_of(self, escapes):
+        """The mask of the entries of a table that belong to the escapes of a mask, each entry with all modes."""
+        if escapes not in self._entries:
+            mask = 0
+            for at in bits_of(escapes):
+                mask |= self.full << (at * self.width)
+            self._entries[escapes] = mask
+        return self._entries[escapes]
+
     def _prepare(self, place):
         """Makes the sheets of a procedure and of all that it can come to, and what rests on them."""
         new = self._make_sheets(place)
         for each in new:
             self.ranks[each] = self._rank(each)
-        for rank in sorted(set([self.ranks[each] for each in new])):
-            places = [each for each in new if self.ranks[each] == rank]
-            self.tops = tops_of(self, [each * self.width + mode for each in places for mode in range(self.width)])
-        entries = {}
+        self.tops = tops_of(self, new)
         for each in new:
             for spot in range(each * self.width, (each + 1) * self.width):
-                escapes = self.tops[(spot, self.everything)][1]
-                if escapes not in entries:
-                    entries[escapes] = self._entries(escapes)
-                self.scopes[spot] = entries[escapes]
+                self.scopes[spot] = self.entries_of(self.tops[(spot, self.everything)][1])
         for each in new:
             for call in self.sheets[each].calls_made.values():
                 self._complete(call)
@@ -127,13 +136,6 @@ class Plan:
             waiting = (waiting ^ bit) | new
             many += 1
         return many
-
-    def _entries(self, escapes):
-        """The mask of the entries of a table that belong to the escapes of a mask, each entry with all modes."""
-        mask = 0
-        for at in bits_of(escapes):
-            mask |= self.full << (at * self.width)
-        return mask
 
     def _complete(self, call):
         """Adds to a call what rests on scopes; what cannot escape from it is not asked for."""

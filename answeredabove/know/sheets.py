@@ -5,7 +5,7 @@ A *spot* is a pair of a procedure and a mode: the place of the procedure times t
 """
 
 from answeredabove.base.moves import signals_answered
-from answeredabove.know.masks import mask_of
+from answeredabove.know.masks import bits_of, mask_of
 
 
 class Sheet:
@@ -47,6 +47,14 @@ class Sheet:
         left = 0
         for shift, modes in self._leaves:
             left |= (come >> shift) & modes
+        return left
+
+    def left_in(self, come, pack):
+        """The same in many worlds at once: all is packed."""
+        left = 0
+        for shift, modes in self._leaves:
+            for mode in bits_of(modes):
+                left |= pack.at(come, shift + mode) << (mode * pack.many)
         return left
 
     def _acts_at(self, state):

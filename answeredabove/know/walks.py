@@ -2,14 +2,19 @@
 
 NOTHING = (0, 0)
 
+# The ways to go: what is called runs under its inner table; it runs under the full table; and besides, answers may be
+# left out, so that what they answer escapes, too.
+NEAR = 0
+WHOLE = 1
+LOOSE = 2
 
-def walked(plan, told, whole, spot, table):
+
+def walked(plan, told, way, spot, table):
     """The masks of the modes that are left and of the escapes that follow for a context, and the calls that are made,
     as triples (call, mode, mask of the inner table).
 
-    `told` has the masks of the leaves and of the escapes of other contexts by pairs (spot, mask of the table). If
-    `whole` is true, what is called runs under the full table. Otherwise nothing follows, and this is None, if not all
-    is told on which the inner table of a call rests.
+    `told` has the masks of the leaves and of the escapes of other contexts by pairs (spot, mask of the table). Where
+    not all is told on which the inner table of a call rests, nothing follows near by, and this is None.
     """
     sheet, come = plan.first[spot]
     escaped = 0
@@ -23,13 +28,13 @@ def walked(plan, told, whole, spot, table):
             escaped |= escape
             more |= there[(table >> shift) & plan.full]
         for call, mode in calls:
-            inner = plan.everything if whole else _inner(plan, told, call, table)
+            inner = _inner(plan, told, call, table) if way == NEAR else plan.everything
             if inner is None:
                 return None
             made.append((call, mode, inner))
             left, others = told.get((call.base + mode, inner), NOTHING)
             more |= call.there[left]
-            escaped |= others & call.passed
+            escaped |= others & (plan.passing if way == LOOSE else call.passed)
             if others & ~call.passed > 0:
                 states, others = _answered(plan, told, call, table, others)
                 more |= states
