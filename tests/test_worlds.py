@@ -197,6 +197,20 @@ class TestSixAnswers(Checks):
         self.assertGreater(len(sizes), 1)
         self.assertIs(is_spare(SOME, answers.idle), True)
 
+    def test_just_six_of_which_some_begin(self):
+        some = []
+        for out in itertools.combinations(SOME.answers, 2):
+            six = SOME.without_answers(out)
+            begun = Answers(six)
+            self.assertEqual(len(six.answers), 6)
+            some.append(len(begun))
+            for aim in ("same", "answered"):
+                told = least_by_the_words(six, six.answers, aim)
+                self.assertEqual(least_sets(six, six.answers, aim=aim), told)
+                # What never begins is not kept.
+                self.assertEqual(least_sets(six, begun.idle, aim="same"), ((),))
+        self.assertEqual(sorted(set(some)), [0, 1, 2, 3, 4])
+
     def test_drawn_programs(self):
         asked = 0
         for program in DRAWN[::3]:
