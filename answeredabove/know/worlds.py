@@ -68,7 +68,7 @@ class Worlds:
         return added, unsure, row
 
     def need_all(self, offer, answering, worlds):
-        """The same for what answers a call, as it is told for each reply."""
+        """Has it learned what is true in some worlds of all that answers a call, as it is told for each reply."""
         for reply, (_, unsure, _) in zip(offer.replies, answering):
             for _, scene in unsure:
                 self.need(scene, worlds & reply.within)
